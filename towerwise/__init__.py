@@ -1,0 +1,1 @@
+"""Towerwise: numbers of several kinds in one tower."""

@@ -1,0 +1,64 @@
+"""The paragraph behind "The interface": names, arguments and files, as the document lists them."""
+
+import ast
+import importlib
+import pathlib
+import unittest
+
+import towerwise
+
+FOLDER = pathlib.Path(towerwise.__file__).parent
+
+FUNCTIONS = {
+    "words": {"is_whole": "thing", "is_among": "thing least most", "is_name": "thing", "number_in": "word",
+              "words_of": "row"},
+    "fractions": {"is_fraction": "thing", "fraction": "above below", "sum_of": "one other", "product_of": "one other",
+                  "difference_of": "one other", "quotient_of": "one other", "is_less": "one other", "is_great": "one"},
+    "kinds": {"is_kind": "thing", "need_kind": "thing", "is_finite": "kind", "many_worths": "kind"},
+    "worths": {"is_worth": "kind thing", "need_worth": "kind thing", "worth_at": "kind number",
+               "place_of": "kind worth"},
+    "exact": {"exact_deed": "kind deed one other", "exact_order": "kind one other"},
+    "roots": {"root_deed": "kind deed one other", "root_sign": "kind worth", "root_order": "kind one other",
+              "turned_root": "kind worth", "root_norm": "kind worth"},
+    "backs": {"is_prime": "number", "back_of": "kind worth", "units_of": "kind", "parted_noughts": "kind"},
+    "figures": {"rounded": "figures number", "value_of": "worth", "is_tie": "figures number"},
+    "about": {"about_deed": "kind deed one other", "about_order": "kind one other"},
+    "sure": {"sure_deed": "kind deed one other", "sure_like": "kind one other", "sure_order": "kind one other",
+             "root_bounds": "number places", "hull_of": "kind worths", "is_within": "kind one other"},
+}
+# Each error class, and its fields; those without are made of a text.
+ERRORS = {
+    "TowerError": "", "BadKind": "", "BadWorth": "", "BadTower": "place", "BadWay": "", "BadNumber": "", "BadName": "",
+    "BadTerm": "", "BadProgram": "row", "BadPaper": "place", "BadText": "line word", "BadLine": "", "NoDeed": "",
+    "NoKind": "", "TwoKinds": "one other", "NoOrder": "", "ByNought": "", "Lacking": "", "TooGreat": "",
+}
+
+
+def parsed(name):
+    """Parse a file of the package."""
+    return ast.parse((FOLDER / (name + ".py")).read_text(encoding="utf-8"))
+
+
+def arguments(function):
+    """List the names that a function is passed, none of them by a star."""
+    told = function.args
+    assert not told.vararg and not told.kwarg and not told.kwonlyargs
+    return [argument.arg for argument in told.posonlyargs + told.args]
+
+
+class Interface(unittest.TestCase):
+    def test_functions_stand_in_their_files_with_their_arguments(self):
+        for file, wanted in FUNCTIONS.items():
+            defined = {node.name: arguments(node) for node in parsed(file).body if isinstance(node, ast.FunctionDef)}
+            for name, words in wanted.items():
+                with self.subTest(file=file, name=name):
+                    self.assertEqual(defined.get(name), words.split())
+                    self.assertTrue(callable(getattr(importlib.import_module("towerwise." + file), name)))
+
+    def test_error_classes_stand_in_their_file_with_their_fields(self):
+        defined = {node.name: node for node in parsed("errors").body if isinstance(node, ast.ClassDef)}
+        for name, words in ERRORS.items():
+            with self.subTest(name):
+                made = [arguments(node) for node in defined[name].body
+                        if isinstance(node, ast.FunctionDef) and node.name == "__init__"]
+                self.assertEqual(made, [["self"] + words.split()] if words else [])

@@ -1,0 +1,97 @@
+"""[0] Nothing handed in is changed or kept; what is told is the asker's own and the same each time."""
+
+from tests.things import Case, OWN_SIX, THINGS, copied, same
+from towerwise.about import about_deed, about_order
+from towerwise.backs import back_of, is_prime, parted_noughts, units_of
+from towerwise.errors import TowerError
+from towerwise.exact import exact_deed, exact_order
+from towerwise.figures import is_tie, rounded, value_of
+from towerwise.fractions import (difference_of, fraction, is_fraction, is_great, is_less, product_of, quotient_of,
+                                 sum_of)
+from towerwise.kinds import is_finite, is_kind, many_worths, need_kind
+from towerwise.roots import root_deed, root_norm, root_order, root_sign, turned_root
+from towerwise.sure import hull_of, is_within, root_bounds, sure_deed, sure_like, sure_order
+from towerwise.words import is_among, is_name, is_whole, number_in, words_of
+from towerwise.worths import is_worth, need_worth, place_of, worth_at
+
+WHOLE, SHARE, ROOT, REST = ("whole",), ("share",), ("root", 5), ("rest", 7)
+ABOUT, SURE = ("about", 2), ("sure", 3)
+NOUGHT, ONE, HALF = (0, 1), (1, 1), (1, 2)
+
+# A good call of each function, and what it tells.
+GOOD = [
+    (is_whole, (7,), True), (is_among, (7, 0, 9), True), (is_name, ("abc",), True), (number_in, ("-12",), -12),
+    (words_of, ("a b c",), ["a", "b", "c"]), (is_fraction, ((1, 2),), True), (fraction, (4, -6), (-2, 3)),
+    (sum_of, (HALF, HALF), ONE), (product_of, (HALF, HALF), (1, 4)), (difference_of, (HALF, ONE), (-1, 2)),
+    (quotient_of, (HALF, (1, 3)), (3, 2)), (is_less, (HALF, ONE), True), (is_great, (HALF,), False),
+    (is_kind, (OWN_SIX,), True), (need_kind, (OWN_SIX,), None), (is_finite, (REST,), True),
+    (many_worths, (OWN_SIX,), 6), (is_worth, (SURE, (HALF, ONE)), True), (need_worth, (ABOUT, (25, 3)), None),
+    (worth_at, (SHARE, 5), (1, 2)), (place_of, (SHARE, (1, 2)), 5), (worth_at, (ROOT, 2), (ONE, NOUGHT)),
+    (exact_deed, (WHOLE, "less", 3, 5), -2), (exact_deed, (REST, "over", 1, 3), 5),
+    (exact_order, (SHARE, HALF, ONE), -1),
+    (root_deed, (ROOT, "times", (ONE, ONE), (ONE, ONE)), ((6, 1), (2, 1))), (root_sign, (ROOT, (ONE, (-1, 1))), -1),
+    (root_order, (ROOT, (ONE, NOUGHT), (NOUGHT, ONE)), -1), (turned_root, (ROOT, (ONE, HALF)), (ONE, (-1, 2))),
+    (root_norm, (ROOT, (ONE, ONE)), (-4, 1)), (is_prime, (13,), True), (back_of, (REST, 3), 5),
+    (units_of, (REST,), (1, 2, 3, 4, 5, 6)), (parted_noughts, (("rest", 6),), [(2, 3), (3, 4)]),
+    (rounded, (2, (1, 8)), (13, -2)), (value_of, ((13, -2),), (13, 100)), (is_tie, (2, (1, 8)), True),
+    (about_deed, (ABOUT, "times", (25, 0), (5, 0)), (13, 1)), (about_order, (ABOUT, (1, 1), (9, 0)), 1),
+    (sure_deed, (SURE, "less", (HALF, ONE), (HALF, ONE)), ((-1, 2), (1, 2))),
+    (sure_like, (SURE, (HALF, ONE), (HALF, ONE)), "perhaps"), (sure_order, (SURE, (HALF, HALF), (ONE, ONE)), "below"),
+    (root_bounds, (2, 1), ((7, 5), (3, 2))), (hull_of, (SURE, [(ONE, ONE), (HALF, HALF)]), (HALF, ONE)),
+    (is_within, (SURE, (HALF, HALF), (HALF, ONE)), True),
+]
+# These are promised for good FRACTIONS alone.
+UNREFUSING = (sum_of, product_of, difference_of, quotient_of, is_less, is_great)
+
+
+class Kept(Case):
+    def test_told_twice_it_is_the_same(self):
+        for function, handed, wanted in GOOD:
+            self.told(wanted, function, *handed)
+
+    def test_told_the_same_behind_refusals(self):
+        for function, handed, wanted in GOOD:
+            if function not in UNREFUSING:
+                for thing in THINGS:
+                    self.asked(function, [thing] * len(handed))
+            self.told(wanted, function, *handed)
+
+    def asked(self, function, handed):
+        """It tells something or refuses; either way what is handed in stays."""
+        before = copied(handed)
+        if function is is_among:
+            handed, before = handed[:1] + [0, 9], before[:1] + [0, 9]
+        try:
+            first = function(*handed)
+        except TowerError as caught:
+            with self.assertRaises(type(caught)):
+                function(*handed)
+        else:
+            self.assertTrue(same(first, function(*handed)))
+        self.assertTrue(same(before, handed))
+
+    def test_one_thing_wrong_at_each_place(self):
+        for function, handed, wanted in GOOD:
+            if function in UNREFUSING or function is is_among:
+                continue
+            for place in range(len(handed)):
+                for thing in THINGS:
+                    self.asked(function, list(handed[:place]) + [thing] + list(handed[place + 1:]))
+            self.told(wanted, function, *handed)
+
+    def test_told_lists_changed_and_asked_again(self):
+        for function, handed, wanted in GOOD:
+            if type(wanted) is list:
+                first = function(*handed)
+                first.reverse()
+                first.append("more")
+                self.told(wanted, function, *handed)
+                second, third = function(*handed), function(*handed)
+                self.assertIsNot(second, third)
+
+    def test_lists_handed_in_are_kept_nowhere(self):
+        handed = [(ONE, ONE)]
+        self.told((ONE, ONE), hull_of, SURE, handed)
+        handed[0] = (HALF, HALF)
+        self.told((HALF, HALF), hull_of, SURE, handed)
+        self.assertEqual(handed, [(HALF, HALF)])

@@ -1,0 +1,27 @@
+"""Refusals that several files share, each in the order in which they are due."""
+
+from towerwise.errors import NoDeed, TooGreat
+from towerwise.fractions import is_great
+from towerwise.kinds import need_kind_of
+from towerwise.words import is_deed
+from towerwise.worths import need_worth
+
+
+def need_worths_of(kind, words, one, other):
+    """Refuse a kind whose word is none of these, then what is none of its worths."""
+    need_kind_of(kind, words)
+    need_worth(kind, one)
+    need_worth(kind, other)
+
+
+def need_deed_of(kind, words, deed, one, other):
+    """Refuse likewise, then what is none of the four deeds."""
+    need_worths_of(kind, words, one, other)
+    if not is_deed(deed):
+        raise NoDeed("this is no deed")
+
+
+def need_small(parts):
+    """Refuse with TooGreat where one of these FRACTIONS is TOO GREAT."""
+    if any(is_great(part) for part in parts):
+        raise TooGreat("what comes is too great")

@@ -25,6 +25,17 @@ FUNCTIONS = {
     "about": {"about_deed": "kind deed one other", "about_order": "kind one other"},
     "sure": {"sure_deed": "kind deed one other", "sure_like": "kind one other", "sure_order": "kind one other",
              "root_bounds": "number places", "hull_of": "kind worths", "is_within": "kind one other"},
+    "own": {"nought_of": "kind", "one_of": "kind", "own_deed": "kind deed one other", "is_group": "kind",
+            "is_even": "kind"},
+    "deeds": {"has_deed": "kind deed", "deed_done": "kind deed one other"},
+    "towers": {"is_tower": "thing", "need_tower": "thing", "steps_from": "tower number", "with_kind": "tower kind",
+               "with_step": "tower step"},
+    "going": {"is_way": "tower thing", "up_step": "tower one other worth", "gone_up": "tower way worth"},
+    "above": {"kinds_above": "tower number", "all_ways": "tower one other", "first_way": "tower one other",
+              "candidates_of": "tower deed one other", "least_kind": "tower deed one other",
+              "least_above": "tower one other"},
+    "cards": {"card_of": "tower way", "card_of_step": "tower one other", "card_behind": "card other",
+              "by_card": "card worth"},
 }
 # Each error class, and its fields; those without are made of a text.
 ERRORS = {

@@ -1,16 +1,23 @@
 """[0] Nothing handed in is changed or kept; what is told is the asker's own and the same each time."""
 
 from tests.things import Case, OWN_SIX, THINGS, copied, same
+from tests.towercase import EIGHT, FALLING, LINE, OWN_FOUR, RESTS, ROUNDS
 from towerwise.about import about_deed, about_order
+from towerwise.above import all_ways, candidates_of, first_way, kinds_above, least_above, least_kind
 from towerwise.backs import back_of, is_prime, parted_noughts, units_of
+from towerwise.cards import by_card, card_behind, card_of, card_of_step
+from towerwise.deeds import deed_done, has_deed
 from towerwise.errors import TowerError
 from towerwise.exact import exact_deed, exact_order
 from towerwise.figures import is_tie, rounded, value_of
 from towerwise.fractions import (difference_of, fraction, is_fraction, is_great, is_less, product_of, quotient_of,
                                  sum_of)
+from towerwise.going import gone_up, is_way, up_step
 from towerwise.kinds import is_finite, is_kind, many_worths, need_kind
+from towerwise.own import is_even, is_group, nought_of, one_of, own_deed
 from towerwise.roots import root_deed, root_norm, root_order, root_sign, turned_root
 from towerwise.sure import hull_of, is_within, root_bounds, sure_deed, sure_like, sure_order
+from towerwise.towers import is_tower, need_tower, steps_from, with_kind, with_step
 from towerwise.words import is_among, is_name, is_whole, number_in, words_of
 from towerwise.worths import is_worth, need_worth, place_of, worth_at
 
@@ -39,9 +46,22 @@ GOOD = [
     (sure_like, (SURE, (HALF, ONE), (HALF, ONE)), "perhaps"), (sure_order, (SURE, (HALF, HALF), (ONE, ONE)), "below"),
     (root_bounds, (2, 1), ((7, 5), (3, 2))), (hull_of, (SURE, [(ONE, ONE), (HALF, HALF)]), (HALF, ONE)),
     (is_within, (SURE, (HALF, HALF), (HALF, ONE)), True),
+    (nought_of, (OWN_FOUR,), 0), (one_of, (OWN_FOUR,), 1), (own_deed, (OWN_FOUR, "over", 1, 2), 3),
+    (is_group, (OWN_SIX,), True), (is_even, (OWN_SIX,), True), (has_deed, (OWN_SIX, "over"), False),
+    (deed_done, (ROOT, "less", (ONE, ONE), (ONE, HALF)), (NOUGHT, HALF)), (is_tower, (EIGHT,), True),
+    (need_tower, (RESTS,), None), (steps_from, (ROUNDS, 2), [3, 5]),
+    (with_kind, ((RESTS[0][:1], ()), REST), ((WHOLE, REST), ())),
+    (with_step, ((LINE[0], ()), (0, 1, None)), (LINE[0], ((0, 1, None),))), (is_way, (LINE, (0, 1, 2, 3)), True),
+    (up_step, (RESTS, 4, 5, 0), 1), (gone_up, (ROUNDS, (0, 2, 3, 4), 1495), (2, 3)),
+    (kinds_above, (FALLING, 3), [0, 1, 3]), (all_ways, (ROUNDS, 0, 3), [(0, 1, 2, 3), (0, 1, 3), (0, 2, 3)]),
+    (first_way, (FALLING, 5, 0), (5, 4, 2, 1, 0)), (candidates_of, (LINE, "over", 0, 2), [2, 3]),
+    (least_kind, (RESTS, "over", 1, 3), 4), (least_above, (LINE, 1, 2), 2),
+    (card_of, (ROUNDS, (2, 3, 4)), ("figures", (3, 2, 1))), (card_of_step, (RESTS, 2, 4), ("row", (0, 1, 0, 1, 0, 1))),
+    (card_behind, (("round", (0, 1, 2, 3)), ("row", (1, 0, 1, 0))), ("round", (1, 0))),
+    (by_card, (("round", (1, 0)), 5), 0),
 ]
-# These are promised for good FRACTIONS alone.
-UNREFUSING = (sum_of, product_of, difference_of, quotient_of, is_less, is_great)
+# These are promised for good FRACTIONS, or CARDS that fit, alone.
+UNREFUSING = (sum_of, product_of, difference_of, quotient_of, is_less, is_great, card_behind, by_card)
 
 
 class Kept(Case):

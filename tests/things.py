@@ -84,6 +84,15 @@ class Case(unittest.TestCase):
             if not same(before, handed):
                 self.fail(f"{function.__name__}{shown(before)} changed what was handed in")
 
+    def refused_with(self, error, fields, function, *handed):
+        """The function refuses so, and the error has just these fields."""
+        self.refused(error, function, *handed)
+        try:
+            function(*handed)
+        except TowerError as caught:
+            if not same(fields, vars(caught)):
+                self.fail(f"{function.__name__}{shown(handed)}: {vars(caught)}, wanted {fields}")
+
     def refuses_others(self, error, function, is_good, ahead=(), behind=()):
         """Of all things that aren't good at one place each is refused so; good ones stand on either side."""
         bad = [thing for thing in THINGS if not is_good(thing)]

@@ -40,14 +40,18 @@ def _is_table(thing):
     """Tell whether thing is a tuple of N rows, each a tuple of N numbers from 0 to N - 1."""
     if not isinstance(thing, tuple) or not 2 <= len(thing) <= 6:
         return False
-    return all(_is_row(row, len(thing)) for row in thing)
+    return all(is_row(row, len(thing), len(thing)) for row in thing)
 
 
-def _is_row(thing, many):
+def is_row(thing, length, many):
     """Tell whether thing is a tuple of so many numbers, each from 0 to many - 1."""
-    if not isinstance(thing, tuple) or len(thing) != many:
+    if not isinstance(thing, tuple) or len(thing) != length:
         return False
-    return all(is_among(number, 0, many - 1) for number in thing)
+    for number in thing:
+        # What is_among does, written out: towers of own kinds have rows by the dozen, looked at with each question.
+        if not isinstance(number, int) or isinstance(number, bool) or not 0 <= number < many:
+            return False
+    return True
 
 
 def need_kind(thing):
@@ -73,4 +77,9 @@ def many_worths(kind):
     """Tell how many worths a FINITE kind has."""
     if not is_finite(kind):
         raise BadNumber("this kind has no last worth")
+    return count_worths(kind)
+
+
+def count_worths(kind):
+    """Tell how many worths a good kind has that is known to be FINITE."""
     return kind[1] if kind[0] == "rest" else len(kind[1])

@@ -4,14 +4,14 @@ from towerwise.errors import NoDeed, TooGreat
 from towerwise.fractions import is_great
 from towerwise.kinds import need_kind_of
 from towerwise.words import is_deed
-from towerwise.worths import need_worth
+from towerwise.worths import need_among_worths
 
 
 def need_worths_of(kind, words, one, other):
     """Refuse a kind whose word is none of these, then what is none of its worths."""
     need_kind_of(kind, words)
-    need_worth(kind, one)
-    need_worth(kind, other)
+    need_among_worths(kind, one)
+    need_among_worths(kind, other)
 
 
 def need_deed_of(kind, words, deed, one, other):

@@ -4,7 +4,7 @@ from math import gcd, isqrt
 
 from towerwise.errors import BadNumber, BadWorth
 from towerwise.fractions import NOUGHT, is_fraction, is_less, ten_to
-from towerwise.kinds import FINITE, is_finite, many_worths, need_kind
+from towerwise.kinds import FINITE, count_worths, need_kind
 from towerwise.words import is_among, is_whole
 
 MOST_POWER = 400
@@ -13,8 +13,14 @@ LAST_TRIED = 400
 
 def is_worth(kind, thing):
     """Tell whether thing is a worth of a kind."""
-    if is_finite(kind):
-        return is_among(thing, 0, many_worths(kind) - 1)
+    need_kind(kind)
+    return has_worth(kind, thing)
+
+
+def has_worth(kind, thing):
+    """Tell whether thing is a worth of a kind that is known to be one."""
+    if kind[0] in FINITE:
+        return is_among(thing, 0, count_worths(kind) - 1)
     if kind[0] == "whole":
         return is_whole(thing)
     if kind[0] == "share":
@@ -40,7 +46,13 @@ def _is_about(figures, front, power):
 
 def need_worth(kind, thing):
     """Refuse with BadWorth what is no worth of a kind."""
-    if not is_worth(kind, thing):
+    need_kind(kind)
+    need_among_worths(kind, thing)
+
+
+def need_among_worths(kind, thing):
+    """Refuse with BadWorth what is no worth of a kind that is known to be one."""
+    if not has_worth(kind, thing):
         raise BadWorth("this is no worth of the kind")
 
 
@@ -60,8 +72,8 @@ def worth_at(kind, number):
 
 def _last_number(kind):
     """Tell the last number that a worth of the kind is asked for by."""
-    if is_finite(kind):
-        return many_worths(kind) - 1
+    if kind[0] in FINITE:
+        return count_worths(kind) - 1
     return len(_sures()) - 1 if kind[0] == "sure" else LAST_TRIED
 
 

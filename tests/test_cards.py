@@ -4,8 +4,7 @@ from itertools import product
 
 from tests.things import OWN_SIX, OWN_TWO, THINGS
 from tests.towercase import (A1, A2, A3, ALONE, APART, EIGHT, FALLING, FORK, GOOD_TOWERS, LINE, OWNS, REST, RESTS, ROOT,
-                             ROUNDS, S0, S2, S6, SHARE, SPLIT, TowerCase, WHOLE, carried, some_worths, steps,
-                             ways_found)
+                             S0, S2, S6, SHARE, SPLIT, TowerCase, WHOLE, carried, some_worths, steps, ways_found)
 from towerwise.cards import by_card, card_behind, card_of, card_of_step
 from towerwise.errors import BadWay
 

@@ -36,6 +36,13 @@ FUNCTIONS = {
               "least_above": "tower one other"},
     "cards": {"card_of": "tower way", "card_of_step": "tower one other", "card_behind": "card other",
               "by_card": "card worth"},
+    "differ": {"differ_at": "tower one other", "uneven_ways": "tower"},
+    "cardcheck": {"even_paper": "tower", "check_even": "tower paper"},
+    "mixed": {"is_mixed": "tower thing", "need_mixed": "tower thing", "mixed_deed": "tower deed one other",
+              "all_answers": "tower deed one other"},
+    "likeness": {"keeps_worths": "tower way", "bounds_at": "tower way worth", "likeness_of": "tower one other"},
+    "order": {"order_of": "tower one other", "in_order": "tower numbers"},
+    "twins": {"going_back": "tower way worth", "twins_of": "tower number", "plainest_twin": "tower number"},
 }
 # Each error class, and its fields; those without are made of a text.
 ERRORS = {

@@ -1,12 +1,14 @@
 """[0] Nothing handed in is changed or kept; what is told is the asker's own and the same each time."""
 
 from tests.things import Case, OWN_SIX, THINGS, copied, same
-from tests.towercase import EIGHT, FALLING, LINE, OWN_FOUR, RESTS, ROUNDS
+from tests.towercase import ALONE, EIGHT, FALLING, LINE, OWN_FOUR, RESTS, ROUNDS
 from towerwise.about import about_deed, about_order
 from towerwise.above import all_ways, candidates_of, first_way, kinds_above, least_above, least_kind
 from towerwise.backs import back_of, is_prime, parted_noughts, units_of
+from towerwise.cardcheck import check_even, even_paper
 from towerwise.cards import by_card, card_behind, card_of, card_of_step
 from towerwise.deeds import deed_done, has_deed
+from towerwise.differ import differ_at, uneven_ways
 from towerwise.errors import TowerError
 from towerwise.exact import exact_deed, exact_order
 from towerwise.figures import is_tie, rounded, value_of
@@ -14,16 +16,23 @@ from towerwise.fractions import (difference_of, fraction, is_fraction, is_great,
                                  sum_of)
 from towerwise.going import gone_up, is_way, up_step
 from towerwise.kinds import is_finite, is_kind, many_worths, need_kind
+from towerwise.likeness import bounds_at, keeps_worths, likeness_of
+from towerwise.mixed import all_answers, is_mixed, mixed_deed, need_mixed
+from towerwise.order import in_order, order_of
 from towerwise.own import is_even, is_group, nought_of, one_of, own_deed
 from towerwise.roots import root_deed, root_norm, root_order, root_sign, turned_root
 from towerwise.sure import hull_of, is_within, root_bounds, sure_deed, sure_like, sure_order
 from towerwise.towers import is_tower, need_tower, steps_from, with_kind, with_step
+from towerwise.twins import going_back, plainest_twin, twins_of
 from towerwise.words import is_among, is_name, is_whole, number_in, words_of
 from towerwise.worths import is_worth, need_worth, place_of, worth_at
 
 WHOLE, SHARE, ROOT, REST = ("whole",), ("share",), ("root", 5), ("rest", 7)
 ABOUT, SURE = ("about", 2), ("sure", 3)
 NOUGHT, ONE, HALF = (0, 1), (1, 1), (1, 2)
+
+SMALL = ((WHOLE, REST, SHARE), ((0, 1, None), (0, 2, None)))
+SMALL_PAPER = ((0, 1, ("round", (0, 1, 2, 3, 4, 5, 6))), (0, 2, ("figures", ())))
 
 # A good call of each function, and what it tells.
 GOOD = [
@@ -58,7 +67,18 @@ GOOD = [
     (least_kind, (RESTS, "over", 1, 3), 4), (least_above, (LINE, 1, 2), 2),
     (card_of, (ROUNDS, (2, 3, 4)), ("figures", (3, 2, 1))), (card_of_step, (RESTS, 2, 4), ("row", (0, 1, 0, 1, 0, 1))),
     (card_behind, (("round", (0, 1, 2, 3)), ("row", (1, 0, 1, 0))), ("round", (1, 0))),
-    (by_card, (("round", (1, 0)), 5), 0),
+    (by_card, (("round", (1, 0)), 5), 0), (differ_at, (ROUNDS, (0, 2, 3), (0, 1, 3)), 1045),
+    (uneven_ways, (ROUNDS,), ((0, 1, 2, 3), (0, 1, 3), 1045)), (even_paper, (SMALL,), SMALL_PAPER),
+    (check_even, (SMALL, SMALL_PAPER), None), (is_mixed, (LINE, (1, HALF)), True),
+    (need_mixed, (LINE, (1, HALF)), None),
+    (mixed_deed, (LINE, "over", (0, 1), (0, 2)), (1, HALF)),
+    (all_answers, (ROUNDS, "plus", (0, 1045), (3, (0, 0))),
+     [(("worth", (11, 2)), (0, 1, 2, 3), (3,)), (("worth", (1, 3)), (0, 1, 3), (3,))]),
+    (keeps_worths, (LINE, (2, 3)), True), (bounds_at, (LINE, (2, 3), (NOUGHT, ONE)), ((141, 100), (71, 50))),
+    (likeness_of, (LINE, (0, 1), (1, ONE)), "yes"), (order_of, (LINE, (1, HALF), (0, 1)), "below"),
+    (in_order, (LINE, [(0, 1), (1, HALF)]), [(1, HALF), (0, 1)]), (going_back, (LINE, (0, 1), (5, 1)), 5),
+    (twins_of, (LINE, (1, HALF)), [(1, HALF), (2, (HALF, NOUGHT)), (3, (HALF, HALF))]),
+    (plainest_twin, (LINE, (3, (HALF, HALF))), (1, HALF)), (twins_of, (ALONE, (0, 5)), [(0, 5)]),
 ]
 # These are promised for good FRACTIONS, or CARDS that fit, alone.
 UNREFUSING = (sum_of, product_of, difference_of, quotient_of, is_less, is_great, card_behind, by_card)
@@ -115,3 +135,8 @@ class Kept(Case):
         handed[0] = (HALF, HALF)
         self.told((HALF, HALF), hull_of, SURE, handed)
         self.assertEqual(handed, [(HALF, HALF)])
+        numbers = [(0, 1), (1, HALF)]
+        self.told([(1, HALF), (0, 1)], in_order, LINE, numbers)
+        numbers[1] = (0, 2)
+        self.told([(0, 1), (0, 2)], in_order, LINE, numbers)
+        self.assertEqual(numbers, [(0, 1), (0, 2)])

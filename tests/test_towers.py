@@ -4,8 +4,7 @@ from itertools import product
 
 from tests.things import OWN_SIX, OWN_TWO, THINGS, whole
 from tests.towercase import (A1, A2, A3, ALONE, APART, BAD_TOWERS, EIGHT, EIGHT_KINDS, FALLING, GOOD_TOWERS, LINE,
-                             OWN_FOUR, OWN_THREE, OWNS, REST, RESTS, ROOT, ROUNDS, S0, S2, S6, SHARE, TowerCase, WHOLE,
-                             steps)
+                             OWN_FOUR, OWN_THREE, OWNS, REST, RESTS, ROUNDS, S0, S2, S6, SHARE, TowerCase, WHOLE, steps)
 from towerwise.errors import BadKind, BadNumber, BadTower
 from towerwise.towers import is_tower, need_tower, steps_from, with_kind, with_step
 
@@ -156,8 +155,9 @@ class Towers(TowerCase):
                 self.bad((1, place), (LINE[0], LINE[1][:place] + (wrong,) + LINE[1][place:]))
 
     def test_numbers_of_no_kind(self):
-        for one, other in ((-1, 0), (0, -1), (0, 4), (4, 0), (0, 10 ** 60), (-4, 1), (0, -3), (3, 4), (5, 6)):
+        for one, other in ((-1, 0), (-1, 3), (0, -1), (0, 6), (6, 0), (0, 10 ** 60), (-4, 1), (0, -3), (4, 7), (5, 6)):
             self.bad((1, 0), (LINE[0], ((one, other, None),)))
+            self.bad((1, 0), (FALLING[0], ((one, other, None),)))
 
     def test_from_a_kind_to_itself(self):
         for number in range(4):

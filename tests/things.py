@@ -39,6 +39,8 @@ THINGS = [
 
 def same(one, other):
     """Tell whether both are the same, lists no tuples, True no 1, all the way down."""
+    if one is other:
+        return True
     if type(one) is not type(other):
         return False
     if isinstance(one, (list, tuple)):
@@ -49,8 +51,11 @@ def same(one, other):
 
 
 def copied(thing):
-    """Copy lists, tuples, dicts and sets all the way down; other things don't change."""
-    if isinstance(thing, (list, tuple, set)):
+    """Copy lists, dicts and sets, and tuples with such within, all the way down; other things don't change."""
+    if isinstance(thing, tuple):
+        parts = [copied(part) for part in thing]
+        return tuple(parts) if any(part is not old for part, old in zip(parts, thing)) else thing
+    if isinstance(thing, (list, set)):
         return type(thing)([copied(part) for part in thing])
     if isinstance(thing, dict):
         return {key: copied(part) for key, part in thing.items()}

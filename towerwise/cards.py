@@ -77,7 +77,7 @@ def _through(row, other):
 def _shortest(row):
     """Tell the shortest row that goes round as this one does."""
     for many in range(1, len(row)):
-        if len(row) % many == 0 and row[:many] * (len(row) // many) == row:
+        if row[:many] * (len(row) // many) == row:
             return row[:many]
     return row
 

@@ -42,6 +42,13 @@ def value_of(worth):
     return fraction(front * ten_to(max(0, power)), ten_to(max(0, -power)))
 
 
+def rounded_through(row, number):
+    """Tell the FRACTION that is left of one ROUNDED to each count of figures in a row, one behind the other."""
+    for figures in row:
+        number = value_of(rounded(figures, number))
+    return number
+
+
 def _need_rounding(figures, number):
     """Refuse what is no count of figures, then what is no FRACTION."""
     if not is_among(figures, 1, MOST_FIGURES):

@@ -60,13 +60,14 @@ def carried(tower, way, worth):
     """Tell what a worth becomes up a WAY, all of them known to be good."""
     kinds, hows = tower[0], hows_of(tower)
     for one, other in pairwise(way):
-        how = hows[(one, other)]
-        worth = _lifted(kinds[one], kinds[other], worth) if how is None else how[worth]
+        worth = lifted(kinds[one], kinds[other], hows[(one, other)], worth)
     return worth
 
 
-def _lifted(one, other, worth):
-    """Tell what a worth of one kind becomes in another one up a step without a ROW."""
+def lifted(one, other, how, worth):
+    """Tell what a worth of one kind becomes in another one up a step, all of them known to be good."""
+    if how is not None:
+        return how[worth]
     if other[0] == "rest":
         return worth % other[1]
     if other[0] == "about":

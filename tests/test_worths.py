@@ -196,6 +196,27 @@ def sure_order():
     return sorted(found, key=lambda worth: (worth[1][0] - worth[0][0], worth[0][0]))
 
 
+# The first forty of each, written out as [3] has them.
+FIRST_SHARES = [
+    (0, 1), (1, 1), (-1, 1), (2, 1), (-2, 1), (1, 2), (-1, 2), (3, 1), (-3, 1), (1, 3), (-1, 3), (4, 1), (-4, 1),
+    (3, 2), (-3, 2), (2, 3), (-2, 3), (1, 4), (-1, 4), (5, 1), (-5, 1), (1, 5), (-1, 5), (6, 1), (-6, 1), (5, 2),
+    (-5, 2), (4, 3), (-4, 3), (3, 4), (-3, 4), (2, 5), (-2, 5), (1, 6), (-1, 6), (7, 1), (-7, 1), (5, 3), (-5, 3),
+    (3, 5)]
+FIRST_ABOUTS = [
+    (0, 0), (1, 0), (-1, 0), (2, 0), (-2, 0), (1, 1), (-1, 1), (1, -1), (-1, -1), (3, 0), (-3, 0), (2, 1), (-2, 1),
+    (2, -1), (-2, -1), (1, 2), (-1, 2), (1, -2), (-1, -2), (4, 0), (-4, 0), (3, 1), (-3, 1), (3, -1), (-3, -1),
+    (2, 2), (-2, 2), (2, -2), (-2, -2), (1, 3), (-1, 3), (1, -3), (-1, -3), (5, 0), (-5, 0), (4, 1), (-4, 1),
+    (4, -1), (-4, -1), (3, 2)]
+FIRST_ROOTS = [
+    ((0, 1), (0, 1)), ((0, 1), (1, 1)), ((1, 1), (0, 1)), ((1, 1), (1, 1)), ((0, 1), (-1, 1)), ((1, 1), (-1, 1)),
+    ((-1, 1), (0, 1)), ((-1, 1), (1, 1)), ((-1, 1), (-1, 1)), ((0, 1), (2, 1)), ((1, 1), (2, 1)), ((-1, 1), (2, 1)),
+    ((2, 1), (0, 1)), ((2, 1), (1, 1)), ((2, 1), (-1, 1)), ((2, 1), (2, 1)), ((0, 1), (-2, 1)), ((1, 1), (-2, 1)),
+    ((-1, 1), (-2, 1)), ((2, 1), (-2, 1)), ((-2, 1), (0, 1)), ((-2, 1), (1, 1)), ((-2, 1), (-1, 1)), ((-2, 1), (2, 1)),
+    ((-2, 1), (-2, 1)), ((0, 1), (1, 2)), ((1, 1), (1, 2)), ((-1, 1), (1, 2)), ((2, 1), (1, 2)), ((-2, 1), (1, 2)),
+    ((1, 2), (0, 1)), ((1, 2), (1, 1)), ((1, 2), (-1, 1)), ((1, 2), (2, 1)), ((1, 2), (-2, 1)), ((1, 2), (1, 2)),
+    ((0, 1), (-1, 2)), ((1, 1), (-1, 2)), ((-1, 1), (-1, 2)), ((2, 1), (-1, 2))]
+
+
 class Order(Case):
     def stands(self, kind, worths):
         """These are the first worths of the kind, from 0 to 400 at the most."""
@@ -208,6 +229,32 @@ class Order(Case):
         self.told(last, place_of, kind, worth_at(kind, last))
         for number in (last + 1, last + 2, 401, 402, 1000, MANY, 10 ** 3999):
             self.refused(BadNumber, worth_at, kind, number)
+
+    def test_the_first_forty_written_out(self):
+        for worths in (FIRST_SHARES, FIRST_ABOUTS, FIRST_ROOTS):
+            self.assertEqual(len(worths), 40)
+        self.stands(("share",), FIRST_SHARES)
+        for figures in (1, 2, 3):
+            self.stands(("about", figures), FIRST_ABOUTS)
+        for root in (2, 3, 5, 30, 59):
+            self.stands(("root", root), FIRST_ROOTS)
+
+    def test_all_places_from_0_to_400_and_back(self):
+        for kind in (("share",), ("about", 1), ("about", 2), ("about", 3), ("root", 2), ("root", 5), ("root", 59)):
+            worths = [worth_at(kind, number) for number in range(401)]
+            self.assertEqual(len(set(worths)), 401)
+            for number, worth in enumerate(worths):
+                self.told(number, place_of, kind, worth)
+                self.told(worth, worth_at, kind, number)
+
+    def test_places_just_beyond_400(self):
+        # Those that are told by as much together as the one at 400, and those by one more.
+        for kind, worths in ((("share",), share_order()), (("about", 1), about_order(1)),
+                             (("about", 2), about_order(2)),
+                             (("about", 3), about_order(3)), (("root", 7), root_order())):
+            for worth in worths[401:480]:
+                self.refused(BadNumber, place_of, kind, worth)
+            self.refused(BadNumber, worth_at, kind, 401)
 
     def test_whole_as_listed(self):
         self.stands(("whole",), [0, 1, -1, 2, -2])

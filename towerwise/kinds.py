@@ -5,8 +5,6 @@ from towerwise.words import is_among
 
 # The kinds that have a number behind their word: its least and its greatest one.
 BOUNDS = {"root": (2, 60), "rest": (2, 12), "about": (1, 3), "sure": (0, 6)}
-# D goes to 60, so the squares of these are all that could divide it.
-SQUARED = (2, 3, 5, 7)
 FINITE = ("rest", "own")
 
 
@@ -28,7 +26,12 @@ def _has_number(word, number):
     least, most = BOUNDS[word]
     if not is_among(number, least, most):
         return False
-    return word != "root" or all(number % (part * part) != 0 for part in SQUARED)
+    return word != "root" or not _has_square(number)
+
+
+def _has_square(number):
+    """Tell whether a square but 1 divides a number up to 60; greater squares of primes are beyond it."""
+    return number % 4 == 0 or number % 9 == 0 or number % 25 == 0 or number % 49 == 0
 
 
 def _are_tables(plus, times):

@@ -190,6 +190,82 @@ class PowersTooGreat(Case):
         self.refused(TooGreat, rounded, 1, (-1, 10 ** 3999))
 
 
+class EachPower(Case):
+    """Each power from -400 to 400, one front each, either side of nought; and just beyond."""
+
+    def fronts(self, figures, power):
+        """Tell a front of so many figures that is another one with each power, and no multiple of 10."""
+        front = 10 ** (figures - 1) + (power + 400) * 7 % (9 * 10 ** (figures - 1))
+        return front + 1 if front % 10 == 0 else front
+
+    def test_worths_stay_and_have_their_value(self):
+        for power in range(-400, 401):
+            for figures in (1, 2, 3):
+                for sign in (1, -1):
+                    worth = (sign * self.fronts(figures, power), power)
+                    number = told_as(value(*worth))
+                    self.told(number, value_of, worth)
+                    self.told(worth, rounded, figures, number)
+                    self.told(worth, rounded, 3, number)
+                    self.told(False, is_tie, figures, number)
+
+    def test_ties(self):
+        for power in range(-400, 401):
+            for figures in (1, 2, 3):
+                front = self.fronts(figures, power)
+                number = value(2 * front + 1, power) / 2
+                wanted = by_decimals(figures, number)
+                self.assertEqual(value(*wanted), value(front + 1, power))
+                for sign in (1, -1):
+                    if wanted[1] > 400:
+                        self.refused(TooGreat, rounded, figures, told_as(sign * number))
+                        self.refused(TooGreat, is_tie, figures, told_as(sign * number))
+                    else:
+                        self.told((sign * wanted[0], wanted[1]), rounded, figures, told_as(sign * number))
+                        self.told(True, is_tie, figures, told_as(sign * number))
+
+    def test_between_worths(self):
+        for power in range(-400, 400):
+            for figures in (1, 2, 3):
+                front = self.fronts(figures, power)
+                for below in (3, 7, 10 ** 40 + 1):
+                    number = value(front, power) + value(1, power) / below
+                    self.told((front, power), rounded, figures, told_as(number))
+                    self.told(False, is_tie, figures, told_as(number))
+
+    def test_just_beyond(self):
+        for figures in (1, 2, 3):
+            for power in (401, 402, 403, -401, -402, -403):
+                for front in (1, 5, 9, 10 ** figures - 1):
+                    number = value(front, power)
+                    self.refused(BadWorth, value_of, (front, power))
+                    self.refused(BadWorth, value_of, (-front, power))
+                    if by_decimals(figures, number)[1] in (400, -400):
+                        self.told(by_decimals(figures, number), rounded, figures, told_as(number))
+                    else:
+                        self.refused(TooGreat, rounded, figures, told_as(number))
+                        self.refused(TooGreat, is_tie, figures, told_as(-number))
+
+    def test_beside_each_power_of_ten(self):
+        for power in range(-396, 397):
+            for figures in (1, 2, 3):
+                ten, tiny = value(1, power), value(1, power - 30)
+                for number in (ten - tiny, ten, ten + tiny):
+                    self.told((1, power), rounded, figures, told_as(number))
+                    self.told(False, is_tie, figures, told_as(number))
+                half = value(5, power - figures - 1)
+                self.told((1, power), rounded, figures, told_as(ten - half))
+                self.told(True, is_tie, figures, told_as(ten - half))
+                self.told((10 ** figures - 1, power - figures), rounded, figures, told_as(ten - half - tiny))
+
+    def test_each_power_of_two_and_beside_it(self):
+        for power in range(-1320, 1321, 3):
+            number = Fraction(2) ** power
+            for near in (number, number * Fraction(2 ** 50 - 1, 2 ** 50), number * Fraction(2 ** 50 + 1, 2 ** 50)):
+                for figures in (1, 3):
+                    self.told(by_decimals(figures, near), rounded, figures, told_as(near))
+
+
 class Ties(Case):
     def test_by_hand(self):
         for figures, number, wanted in (

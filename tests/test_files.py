@@ -1,6 +1,7 @@
 """What LANGUAGE.md asks of the files themselves, as far as it can be counted: L1, L2, L3, L7, L10, L14, L15, L16."""
 
 import ast
+import builtins
 import pathlib
 import unittest
 
@@ -71,6 +72,34 @@ class Files(unittest.TestCase):
             for node in ast.parse(file.read_text(encoding="utf-8")).body:
                 docstring = isinstance(node, ast.Expr) and isinstance(node.value, ast.Constant)
                 self.assertTrue(docstring or isinstance(node, plain), (file, node.lineno))
+
+    def test_no_name_has_two_meanings(self):
+        for file in FILES:
+            tree = ast.parse(file.read_text(encoding="utf-8"))
+            taken = {alias.name for node in ast.walk(tree) if isinstance(node, ast.ImportFrom) for alias in node.names}
+            taken |= {node.name for node in ast.walk(tree) if isinstance(node, ast.ClassDef)} | set(dir(builtins))
+            bound = {node.arg for node in ast.walk(tree) if isinstance(node, ast.arg)}
+            bound |= {node.id for node in ast.walk(tree) if isinstance(node, ast.Name)
+                      and not isinstance(node.ctx, ast.Load)}
+            bound |= {node.name for node in ast.walk(tree) if isinstance(node, ast.FunctionDef)
+                      and not node.name.startswith("__")}
+            self.assertEqual(taken & bound, set(), file)
+
+    def test_no_two_files_import_from_each_other(self):
+        needs = {file.stem: {node.module.split(".")[1] for node in ast.walk(ast.parse(file.read_text(encoding="utf-8")))
+                             if isinstance(node, ast.ImportFrom) and node.module.startswith("towerwise.")}
+                 for file in FILES}
+        while needs:
+            free = [name for name, others in needs.items() if not others & set(needs)]
+            self.assertTrue(free, needs)
+            needs = {name: others for name, others in needs.items() if name not in free}
+
+    def test_all_that_is_imported_is_used(self):
+        for file in FILES:
+            tree = ast.parse(file.read_text(encoding="utf-8"))
+            names = {alias.name for node in ast.walk(tree) if isinstance(node, ast.ImportFrom) for alias in node.names}
+            used = {node.id for node in ast.walk(tree) if isinstance(node, ast.Name)}
+            self.assertLessEqual(names, used, file)
 
     def test_no_numbers_with_a_point(self):
         for file, node in nodes(ast.Constant):

@@ -6,7 +6,7 @@ from math import gcd
 from tests.things import Case, THINGS, whole
 from towerwise.errors import BadNumber, ByNought
 from towerwise.fractions import (difference_of, fraction, is_fraction, is_great, is_less, product_of, quotient_of,
-                                 sum_of)
+                                 sum_of, ten_to)
 
 SMALL = sorted({Fraction(above, below) for above in range(-7, 8) for below in range(1, 7)})
 LARGE = [Fraction(10 ** 60, 1), Fraction(-10 ** 60, 3), Fraction(1, 10 ** 60), Fraction(10 ** 300, 10 ** 299 + 1),
@@ -127,6 +127,12 @@ class IsLess(Case):
         self.told(False, is_less, (many, many + 1), (many - 1, many))
         self.told(True, is_less, (-many, many + 1), (1 - many, many))
         self.told(False, is_less, (many, many + 1), (many, many + 1))
+
+
+class TenTo(Case):
+    def test_each_power(self):
+        for many in list(range(1100)) + [1279, 1280, 3999, 4000, 5000]:
+            self.told(10 ** many, ten_to, many)
 
 
 class IsGreat(Case):

@@ -2,7 +2,7 @@
 
 from towerwise.cards import card_behind, step_card, way_card
 from towerwise.errors import BadWay
-from towerwise.figures import rounded, rounded_through
+from towerwise.figures import nearest, rounded_through
 from towerwise.fractions import NOUGHT
 from towerwise.going import need_way
 from towerwise.paths import leads_of, numbers_above, reach_of
@@ -72,7 +72,7 @@ def _worth_of(kind, number):
     """Tell a whole number as a worth of a whole, share or about kind."""
     if kind[0] == "whole":
         return number
-    return (number, 1) if kind[0] == "share" else rounded(kind[1], (number, 1))
+    return (number, 1) if kind[0] == "share" else nearest(kind[1], (number, 1))
 
 
 def cards_told(tower):

@@ -3,7 +3,7 @@
 from itertools import pairwise
 
 from towerwise.errors import BadWay
-from towerwise.figures import rounded, value_of
+from towerwise.figures import nearest, number_told
 from towerwise.fractions import NOUGHT, ends_of, product_of, sum_of
 from towerwise.refusals import need_small
 from towerwise.sure import root_bounds
@@ -71,7 +71,7 @@ def lifted(one, other, how, worth):
     if other[0] == "rest":
         return worth % other[1]
     if other[0] == "about":
-        return rounded(other[1], _number_of(one, worth))
+        return nearest(other[1], _number_of(one, worth))
     if other[0] == "sure":
         ends = _ends_of(one, other, worth)
         need_small(ends)
@@ -85,7 +85,7 @@ def _number_of(kind, worth):
     """Tell the FRACTION that a worth of a whole, share or about kind is."""
     if kind[0] == "whole":
         return (worth, 1)
-    return worth if kind[0] == "share" else value_of(worth)
+    return worth if kind[0] == "share" else number_told(worth)
 
 
 def _ends_of(one, other, worth):

@@ -3,7 +3,7 @@
 from towerwise.cards import way_card
 from towerwise.errors import BadWay, NoKind, TwoKinds
 from towerwise.exact import exact_order
-from towerwise.figures import rounded_through, value_of
+from towerwise.figures import number_told, rounded_through
 from towerwise.fractions import is_less
 from towerwise.going import carried, need_way
 from towerwise.kinds import FINITE
@@ -94,7 +94,7 @@ def _bounds_of(kind, worth):
     """Tell (LOW, HIGH) of a worth of an about or sure kind."""
     if kind[0] == "sure":
         return worth
-    number = value_of(worth)
+    number = number_told(worth)
     return (number, number)
 
 

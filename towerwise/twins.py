@@ -2,7 +2,7 @@
 
 from towerwise.cards import way_card
 from towerwise.errors import BadWay, TooGreat
-from towerwise.figures import rounded, value_of
+from towerwise.figures import nearest, number_told
 from towerwise.fractions import NOUGHT
 from towerwise.going import carried, need_way
 from towerwise.kinds import FINITE
@@ -66,7 +66,7 @@ def _guess(tower, way, worth):
         return row.index(worth) if worth in row else None
     number = _number_at(last, worth)
     if first[0] == "about":
-        return rounded(first[1], number)
+        return nearest(first[1], number)
     if first[0] == "whole":
         return number[0]
     return number if first[0] == "share" else (number, NOUGHT)
@@ -75,7 +75,7 @@ def _guess(tower, way, worth):
 def _number_at(kind, worth):
     """Tell the FRACTION that a worth of a share, root, about or sure kind is, or, if it is none, one that it isn't."""
     if kind[0] == "about":
-        return value_of(worth)
+        return number_told(worth)
     return worth if kind[0] == "share" else worth[0]
 
 

@@ -4,8 +4,8 @@ from towerwise.cards import card_behind, step_card
 from towerwise.differ import cards_told
 from towerwise.errors import BadPaper, Lacking
 from towerwise.kinds import FINITE, count_worths
-from towerwise.paths import numbers_above, reach_of
-from towerwise.towers import need_tower
+from towerwise.paths import numbers_in
+from towerwise.towers import plan_of
 from towerwise.words import is_among, is_whole
 
 MOST_IN_ROW = 12
@@ -13,8 +13,8 @@ MOST_IN_ROW = 12
 
 def even_paper(tower):
     """Tell the paper of an EVEN tower."""
-    need_tower(tower)
-    told = cards_told(tower)
+    leads, above = plan_of(tower)
+    told = cards_told(tower[0], leads, above)
     if any([len(cards) > 1 for cards in told.values()]):
         raise Lacking("the tower is not even, so it has no paper")
     return tuple([pair + tuple(told[pair]) for pair in sorted(told)])
@@ -22,10 +22,10 @@ def even_paper(tower):
 
 def check_even(tower, paper):
     """Refuse with BadPaper what is no right paper that a tower is EVEN."""
-    need_tower(tower)
-    if not _is_paper(_pairs_of(tower), paper):
+    leads, above = plan_of(tower)
+    if not _is_paper(_pairs_of(above), paper):
         raise BadPaper(())
-    stepped = _cards_of_steps(tower)
+    stepped = [[(step[1], _card_of(tower[0], step)) for step in steps] for steps in leads]
     # A card that can't be that of its ends might not go behind a step's card at all: it is never looked at so.
     cards = {row[:2]: row[2] if _fits(tower[0], row) else None for row in paper}
     for place, row in enumerate(paper):
@@ -33,10 +33,9 @@ def check_even(tower, paper):
             raise BadPaper((place,))
 
 
-def _pairs_of(tower):
+def _pairs_of(above):
     """List, rising, the pairs (I, J) with J above I but I itself."""
-    above = reach_of(tower)
-    return [(one, other) for one in range(len(above)) for other in numbers_above(above, one, one) if other != one]
+    return [(one, other) for one, bits in enumerate(above) for other in numbers_in(above, bits) if other != one]
 
 
 def _is_paper(pairs, thing):
@@ -75,13 +74,10 @@ def _is_falling(row):
     return all([one > other for one, other in zip(row, row[1:])])
 
 
-def _cards_of_steps(tower):
-    """Tell for each kind, by its number, the steps from it as (OTHER, CARD)."""
-    kinds = tower[0]
-    stepped = {number: [] for number in range(len(kinds))}
-    for one, other, how in tower[1]:
-        stepped[one].append((other, step_card(kinds[one], kinds[other], how)))
-    return stepped
+def _card_of(kinds, step):
+    """Tell the CARD of a step between two of these kinds."""
+    one, other, how = step
+    return step_card(kinds[one], kinds[other], how)
 
 
 def _fits(kinds, row):

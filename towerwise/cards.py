@@ -1,8 +1,6 @@
 """CARDS: what a way does, told so that two ways of the same ends do the same just where their cards are alike."""
 
-from itertools import pairwise
-
-from towerwise.going import hows_of, need_way
+from towerwise.going import need_way
 from towerwise.kinds import FINITE, count_worths
 from towerwise.towers import need_tower
 
@@ -10,23 +8,26 @@ from towerwise.towers import need_tower
 def card_of(tower, way):
     """Tell the CARD of a WAY."""
     need_tower(tower)
-    need_way(tower, way)
-    return way_card(tower, way)
+    return _card_of(tower, way)
 
 
 def card_of_step(tower, one, other):
     """Tell the CARD of the step from one kind to another."""
     need_tower(tower)
-    need_way(tower, (one, other))
-    return way_card(tower, (one, other))
+    return _card_of(tower, (one, other))
 
 
-def way_card(tower, way):
-    """Tell the CARD of a WAY, both known to be good: that of staying, and one behind the other those of its steps."""
-    kinds, hows = tower[0], hows_of(tower)
-    card = _staying(kinds[way[0]])
-    for one, other in pairwise(way):
-        card = card_behind(card, step_card(kinds[one], kinds[other], hows[(one, other)]))
+def _card_of(tower, way):
+    """Tell the CARD of a WAY of a good tower."""
+    steps = need_way(tower, way)
+    return card_along(tower[0], way[0], steps)
+
+
+def card_along(kinds, number, steps):
+    """Tell the CARD of going from a kind along steps: that of staying, and one behind the other those of the steps."""
+    card = _staying(kinds[number])
+    for one, other, how in steps:
+        card = card_behind(card, step_card(kinds[one], kinds[other], how))
     return card
 
 

@@ -1,12 +1,12 @@
 """Where two ways of the same ends tell otherwise."""
 
-from towerwise.cards import card_behind, step_card, way_card
+from towerwise.cards import card_along, card_behind, step_card
 from towerwise.errors import BadWay
 from towerwise.figures import nearest, rounded_through
 from towerwise.fractions import NOUGHT
 from towerwise.going import need_way
-from towerwise.paths import leads_of, numbers_above, reach_of
-from towerwise.towers import need_tower
+from towerwise.paths import numbers_in
+from towerwise.towers import need_tower, plan_of
 
 # Of whole numbers from 0 on each of these is the least that some two unlike rows of figures leave otherwise; there are
 # eight such rows in all, and any two of them part at one of these.
@@ -16,17 +16,17 @@ PARTINGS = (11, 101, 145, 1001, 1045, 1445, 1495)
 def differ_at(tower, one, other):
     """Tell the worth at which two ways of the same ends DIFFER, None where they tell the same of all."""
     need_tower(tower)
-    need_way(tower, one)
-    need_way(tower, other)
+    ahead, behind = need_way(tower, one), need_way(tower, other)
     if one[0] != other[0] or one[-1] != other[-1]:
         raise BadWay("these ways have unlike ends")
-    return _parting(tower[0][one[0]], way_card(tower, one), way_card(tower, other))
+    kinds = tower[0]
+    return _parting(kinds[one[0]], card_along(kinds, one[0], ahead), card_along(kinds, one[0], behind))
 
 
 def uneven_ways(tower):
     """Tell the first two ways with unlike CARDS and where they DIFFER, None of an EVEN tower."""
-    need_tower(tower)
-    told = cards_told(tower)
+    leads, above = plan_of(tower)
+    told = cards_told(tower[0], leads, above)
     for pair in sorted(told):
         if len(told[pair]) > 1:
             (card, way), (other, second) = list(told[pair].items())[:2]
@@ -75,27 +75,25 @@ def _worth_of(kind, number):
     return (number, 1) if kind[0] == "share" else nearest(kind[1], (number, 1))
 
 
-def cards_told(tower):
+def cards_told(kinds, leads, above):
     """Tell for each two kinds with ways from the one to the other all CARDS of these ways, each with its first way.
 
     They are put together from what is told of the kinds to which steps lead, so that no way is gone twice.
     """
-    kinds, leads, above = tower[0], leads_of(tower), reach_of(tower)
-    stepped = {(one, other): step_card(kinds[one], kinds[other], how) for one, other, how in tower[1]}
     told = {}
     # Kinds above a kind have some of its bits and no others, so they come ahead of it.
     for _, one in sorted([(bits, number) for number, bits in enumerate(above)]):
-        for other in numbers_above(above, one, one):
+        stepped = [(other, step_card(kinds[one], kinds[other], how)) for _, other, how in leads[one]]
+        for other in numbers_in(above, above[one]):
             if other != one:
-                told[(one, other)] = _cards_on(one, other, leads[one], stepped, told)
+                told[(one, other)] = _cards_on(one, other, stepped, told)
     return told
 
 
-def _cards_on(one, other, leads, stepped, told):
-    """Tell the CARDS of all ways from one to other by what is told from the kinds to which one leads."""
+def _cards_on(one, other, stepped, told):
+    """Tell the CARDS of all ways from one to other by its steps and what is told from the kinds to which they lead."""
     found = {}
-    for middle in leads:
-        card = stepped[(one, middle)]
+    for middle, card in stepped:
         if middle == other:
             found.setdefault(card, (one, other))
         for behind, way in told.get((middle, other), {}).items():

@@ -9,6 +9,11 @@ from towerwise.refusals import need_deed_of, need_small, need_worths_of
 def exact_deed(kind, deed, one, other):
     """Tell the worth that comes of two whole numbers, shares or rests."""
     need_deed_of(kind, ("whole", "share", "rest"), deed, one, other)
+    return exact_done(kind, deed, one, other)
+
+
+def exact_done(kind, deed, one, other):
+    """Tell the same of a kind, worths and one of the four deeds that are known to be good."""
     if deed == "over" and not _has_over(kind):
         raise NoDeed("this kind has no over")
     if kind[0] == "rest":
@@ -38,4 +43,9 @@ def _rest_deed(kind, deed, one, other):
 def exact_order(kind, one, other):
     """Tell -1, 0 or 1 where one is less than other, the same, greater, of whole numbers or shares."""
     need_worths_of(kind, ("whole", "share"), one, other)
+    return exact_compared(kind, one, other)
+
+
+def exact_compared(kind, one, other):
+    """Tell the same of a kind and worths that are known to be good."""
     return compared(_as_share(kind, one), _as_share(kind, other))

@@ -25,32 +25,39 @@ def fraction(above, below):
     """Tell the FRACTION of two whole numbers of any sign."""
     if not is_whole(above) or not is_whole(below) or below == 0:
         raise BadNumber("a fraction is of two whole numbers, the one below not nought")
+    return shortest(above, below)
+
+
+def shortest(above, below):
+    """Tell the same of two whole numbers that are known to be such, the one below not nought."""
     both = gcd(above, below)
     if below < 0:
         both = -both
+    if both == 1:
+        return (above, below)
     return (above // both, below // both)
 
 
 def sum_of(one, other):
     """Tell one plus other."""
-    return fraction(one[0] * other[1] + other[0] * one[1], one[1] * other[1])
+    return shortest(one[0] * other[1] + other[0] * one[1], one[1] * other[1])
 
 
 def difference_of(one, other):
     """Tell one less other."""
-    return sum_of(one, (-other[0], other[1]))
+    return shortest(one[0] * other[1] - other[0] * one[1], one[1] * other[1])
 
 
 def product_of(one, other):
     """Tell one times other."""
-    return fraction(one[0] * other[0], one[1] * other[1])
+    return shortest(one[0] * other[0], one[1] * other[1])
 
 
 def quotient_of(one, other):
     """Tell one over other."""
     if other[0] == 0:
         raise ByNought("over by nought")
-    return fraction(one[0] * other[1], one[1] * other[0])
+    return shortest(one[0] * other[1], one[1] * other[0])
 
 
 def fraction_deed(deed, one, other):
@@ -71,9 +78,10 @@ def is_less(one, other):
 
 def compared(one, other):
     """Tell -1, 0 or 1 where one is less than other, the same, greater."""
-    if is_less(one, other):
+    left, right = one[0] * other[1], other[0] * one[1]
+    if left < right:
         return -1
-    return 1 if is_less(other, one) else 0
+    return 1 if left > right else 0
 
 
 def ends_of(parts):

@@ -15,52 +15,60 @@ from towerwise.worths import need_among_worths
 def is_way(tower, thing):
     """Tell whether thing is a WAY of a tower."""
     need_tower(tower)
-    return leads_up(tower, thing)
-
-
-def leads_up(tower, thing):
-    """Tell whether thing is a WAY of a tower that is known to be good."""
-    if not isinstance(thing, tuple) or len(thing) == 0:
-        return False
-    last = len(tower[0]) - 1
-    if not all([is_among(number, 0, last) for number in thing]):
-        return False
-    hows = hows_of(tower)
-    return all([pair in hows for pair in pairwise(thing)])
-
-
-def hows_of(tower):
-    """Tell the HOW of each step by its two numbers, in order."""
-    return {(one, other): how for one, other, how in tower[1]}
+    return _steps_along(tower, thing) is not None
 
 
 def need_way(tower, way):
-    """Refuse with BadWay what is no WAY of a good tower."""
-    if not leads_up(tower, way):
+    """Refuse with BadWay what is no WAY of a good tower; list its steps."""
+    steps = _steps_along(tower, way)
+    if steps is None:
         raise BadWay("this is no way of the tower")
+    return steps
+
+
+def _steps_along(tower, thing):
+    """List the steps along which a thing goes up a good tower, None where it is no WAY."""
+    if not isinstance(thing, tuple) or len(thing) == 0:
+        return None
+    last = len(tower[0]) - 1
+    for number in thing:
+        if not is_among(number, 0, last):
+            return None
+    found = [_step_between(tower[1], one, other) for one, other in pairwise(thing)]
+    return None if None in found else found
+
+
+def _step_between(steps, one, other):
+    """Tell the step that leads from one kind to another, None without one."""
+    for step in steps:
+        if step[0] == one and step[1] == other:
+            return step
+    return None
 
 
 def up_step(tower, one, other, worth):
     """Tell what a worth becomes up the step from one kind to another."""
     need_tower(tower)
-    need_way(tower, (one, other))
-    need_among_worths(tower[0][one], worth)
-    return carried(tower, (one, other), worth)
+    return _gone_up(tower, (one, other), worth)
 
 
 def gone_up(tower, way, worth):
     """Tell what a worth of the first kind becomes up a WAY."""
     need_tower(tower)
-    need_way(tower, way)
+    return _gone_up(tower, way, worth)
+
+
+def _gone_up(tower, way, worth):
+    """Tell the same of a good tower."""
+    steps = need_way(tower, way)
     need_among_worths(tower[0][way[0]], worth)
-    return carried(tower, way, worth)
+    return carried(tower[0], steps, worth)
 
 
-def carried(tower, way, worth):
-    """Tell what a worth becomes up a WAY, all of them known to be good."""
-    kinds, hows = tower[0], hows_of(tower)
-    for one, other in pairwise(way):
-        worth = lifted(kinds[one], kinds[other], hows[(one, other)], worth)
+def carried(kinds, steps, worth):
+    """Tell what a worth becomes along steps of some kinds, all of them known to be good."""
+    for one, other, how in steps:
+        worth = lifted(kinds[one], kinds[other], how, worth)
     return worth
 
 

@@ -1,49 +1,69 @@
 """KINDS: which things are one, and what holds of it."""
 
 from towerwise.errors import BadKind, BadNumber
-from towerwise.words import is_among
+from towerwise.words import is_whole
 
-# The kinds that have a number behind their word: its least and its greatest one.
-BOUNDS = {"root": (2, 60), "rest": (2, 12), "about": (1, 3), "sure": (0, 6)}
+# All kinds with a number behind their word: so they are found at once, where towers are looked at with each question.
+NUMBERED = {
+    ("root", 2): True, ("root", 3): True, ("root", 5): True, ("root", 6): True, ("root", 7): True, ("root", 10): True,
+    ("root", 11): True, ("root", 13): True, ("root", 14): True, ("root", 15): True, ("root", 17): True,
+    ("root", 19): True, ("root", 21): True, ("root", 22): True, ("root", 23): True, ("root", 26): True,
+    ("root", 29): True, ("root", 30): True, ("root", 31): True, ("root", 33): True, ("root", 34): True,
+    ("root", 35): True, ("root", 37): True, ("root", 38): True, ("root", 39): True, ("root", 41): True,
+    ("root", 42): True, ("root", 43): True, ("root", 46): True, ("root", 47): True, ("root", 51): True,
+    ("root", 53): True, ("root", 55): True, ("root", 57): True, ("root", 58): True, ("root", 59): True,
+    ("rest", 2): True, ("rest", 3): True, ("rest", 4): True, ("rest", 5): True, ("rest", 6): True, ("rest", 7): True,
+    ("rest", 8): True, ("rest", 9): True, ("rest", 10): True, ("rest", 11): True, ("rest", 12): True,
+    ("about", 1): True, ("about", 2): True, ("about", 3): True, ("sure", 0): True, ("sure", 1): True,
+    ("sure", 2): True, ("sure", 3): True, ("sure", 4): True, ("sure", 5): True, ("sure", 6): True,
+}
 FINITE = ("rest", "own")
+# What fills a row of so many numbers up to six, by how many there are.
+FILLING = ((), (), (0, 0, 0, 0), (0, 0, 0), (0, 0), (0,), ())
 
 
 def is_kind(thing):
     """Tell whether thing is a KIND."""
-    if not isinstance(thing, tuple) or len(thing) == 0 or not isinstance(thing[0], str):
+    if not isinstance(thing, tuple):
         return False
-    if len(thing) == 1:
+    many = len(thing)
+    if many == 2:
+        word, number = thing
+        return isinstance(word, str) and (type(number) is int or is_whole(number)) and (word, number) in NUMBERED
+    if many == 0 or not isinstance(thing[0], str):
+        return False
+    if many == 1:
         return thing[0] in ("whole", "share")
-    if len(thing) == 2:
-        return _has_number(thing[0], thing[1])
-    return thing[0] == "own" and len(thing) == 3 and _are_tables(thing[1], thing[2])
-
-
-def _has_number(word, number):
-    """Tell whether a kind of that word may have that number."""
-    if word not in BOUNDS:
-        return False
-    least, most = BOUNDS[word]
-    if not is_among(number, least, most):
-        return False
-    return word != "root" or not _has_square(number)
-
-
-def _has_square(number):
-    """Tell whether a square but 1 divides a number up to 60; greater squares of primes are beyond it."""
-    return number % 4 == 0 or number % 9 == 0 or number % 25 == 0 or number % 49 == 0
+    return many == 3 and thing[0] == "own" and _are_tables(thing[1], thing[2])
 
 
 def _are_tables(plus, times):
     """Tell whether both are tables, of one size."""
-    return _is_table(plus) and _is_table(times) and len(plus) == len(times)
-
-
-def _is_table(thing):
-    """Tell whether thing is a tuple of N rows, each a tuple of N numbers from 0 to N - 1."""
-    if not isinstance(thing, tuple) or not 2 <= len(thing) <= 6:
+    if not isinstance(plus, tuple) or not isinstance(times, tuple):
         return False
-    return all(is_row(row, len(thing), len(thing)) for row in thing)
+    many = len(plus)
+    return 2 <= many <= 6 and len(times) == many and _are_rows(plus, many) and _are_rows(times, many)
+
+
+def _are_rows(table, many):
+    """Tell whether a tuple holds nothing but tuples of so many numbers, each from 0 to many - 1.
+
+    Towers are looked at with each question, and most of that look goes into tables: so the six numbers are looked at
+    by name here, and is_row is asked only where they aren't plainly good.
+    """
+    filling = FILLING[many]
+    for row in table:
+        if not isinstance(row, tuple) or len(row) != many:
+            return False
+        one, two, three, four, five, six = row + filling
+        if (type(one) is int and type(two) is int and type(three) is int and type(four) is int and type(five) is int
+                and type(six) is int):
+            if (one < 0 or one >= many or two < 0 or two >= many or three < 0 or three >= many or four < 0
+                    or four >= many or five < 0 or five >= many or six < 0 or six >= many):
+                return False
+        elif not is_row(row, many, many):
+            return False
+    return True
 
 
 def is_row(thing, length, many):
@@ -51,8 +71,7 @@ def is_row(thing, length, many):
     if not isinstance(thing, tuple) or len(thing) != length:
         return False
     for number in thing:
-        # What is_among does, written out: towers of own kinds have rows by the dozen, looked at with each question.
-        if not isinstance(number, int) or isinstance(number, bool) or not 0 <= number < many:
+        if type(number) is not int and not is_whole(number) or not 0 <= number < many:
             return False
     return True
 

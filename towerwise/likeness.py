@@ -1,16 +1,16 @@
 """LIKENESS of MIXED numbers, and how two stand to each other in the LEAST kind above both."""
 
-from towerwise.cards import way_card
-from towerwise.errors import BadWay, NoKind, TwoKinds
-from towerwise.exact import exact_order
-from towerwise.figures import number_told, rounded_through
+from towerwise.cards import card_along
+from towerwise.errors import BadWay
+from towerwise.exact import exact_compared
+from towerwise.figures import MOST_FIGURES, number_told, rounded_through
 from towerwise.fractions import is_less
 from towerwise.going import carried, need_way
 from towerwise.kinds import FINITE
 from towerwise.mixed import need_number_of
-from towerwise.paths import first_between, least_among, numbers_above, reach_of
-from towerwise.roots import root_order
-from towerwise.towers import need_tower
+from towerwise.paths import first_steps, least_in
+from towerwise.roots import root_compared
+from towerwise.towers import need_tower, plan_of
 from towerwise.worths import need_among_worths
 
 BOUNDED = ("about", "sure")
@@ -21,63 +21,67 @@ WORDS = {"below": "no", "above": "no", "apart": "no", "alike": "yes", "perhaps":
 def keeps_worths(tower, way):
     """Tell whether a WAY KEEPS."""
     need_tower(tower)
-    need_way(tower, way)
-    return keeps(tower[0][way[0]], way_card(tower, way))
+    steps = need_way(tower, way)
+    return does_keep(tower[0], way[0], steps)
 
 
-def keeps(kind, card):
-    """Tell whether ways from a kind that have this CARD keep unlike worths apart."""
-    word, row = card
-    if word == "row":
+def does_keep(kinds, number, steps):
+    """Tell whether the way from a kind along steps KEEPS, by its kinds as far as they tell it: cards take longer."""
+    first = kinds[number]
+    if not steps or first[0] == "root":
+        return True
+    if first[0] in FINITE:
+        row = card_along(kinds, number, steps)[1]
         return len(set(row)) == len(row)
-    if word == "figures":
-        return row == () or kind == ("about", row[0]) and len(row) == 1
-    return word == "places"
+    # Numbers kept to so many figures as they have already stay as they are, and whole ones go round in finite kinds.
+    figures = first[1] if first[0] == "about" else MOST_FIGURES + 1
+    for _, other, _ in steps:
+        if kinds[other][0] in FINITE or kinds[other][0] == "about" and kinds[other][1] < figures:
+            return False
+    return True
 
 
 def bounds_at(tower, way, worth):
     """Tell the BOUNDS of what a worth comes to by a WAY to an about or sure kind."""
     need_tower(tower)
-    need_way(tower, way)
-    last = tower[0][way[-1]]
-    if last[0] not in BOUNDED:
+    steps = need_way(tower, way)
+    kinds = tower[0]
+    if kinds[way[-1]][0] not in BOUNDED:
         raise BadWay("only worths of about and sure kinds have bounds")
-    need_among_worths(tower[0][way[0]], worth)
-    return _bounds_of(last, carried(tower, way, worth))
+    need_among_worths(kinds[way[0]], worth)
+    return _bounds_of(kinds[way[-1]], carried(kinds, steps, worth))
 
 
 def likeness_of(tower, one, other):
     """Tell yes or no where two MIXED numbers are the same, or APART, else perhaps."""
-    need_tower(tower)
+    leads, above = plan_of(tower)
     need_number_of(tower, one)
     need_number_of(tower, other)
-    above = reach_of(tower)
-    top = meeting_of(above, one[0], other[0])
-    return "perhaps" if top is None else WORDS[stand(tower, above, top, one, other)]
+    top = least_in(above, above[one[0]] & above[other[0]])
+    return likeness_at(tower[0], leads, above, top, one, other)
 
 
-def meeting_of(above, one, other):
-    """Tell the LEAST kind above both, None without one."""
-    try:
-        return least_among(above, numbers_above(above, one, other))
-    except (NoKind, TwoKinds):
-        return None
+def likeness_at(kinds, leads, above, top, one, other):
+    """Tell the LIKENESS of two MIXED numbers by the LEAST kind above both, None without one."""
+    return "perhaps" if top is None else WORDS[stand(kinds, leads, above, top, one, other)]
 
 
-def stand(tower, above, top, one, other):
+def stand(kinds, leads, above, top, one, other):
     """Tell how the one of two MIXED numbers stands to the other in a kind: below, above, apart, alike or perhaps.
 
     Apart are unlike worths of kinds that have no order.
     """
-    kinds = tower[0]
-    ways = [first_between(tower, above, number[0], top) for number in (one, other)]
-    left, right = carried(tower, ways[0], one[1]), carried(tower, ways[1], other[1])
-    cards = [way_card(tower, way) for way in ways]
-    keeping = [keeps(kinds[one[0]], cards[0]), keeps(kinds[other[0]], cards[1])]
-    if kinds[top][0] in BOUNDED:
-        return _bounded_stand(_bounds_of(kinds[top], left), _bounds_of(kinds[top], right), cards, keeping)
-    word = _plain_stand(kinds[top], left, right)
-    return word if word != "alike" or all(keeping) else "perhaps"
+    ahead, behind = first_steps(leads, above, one[0], top), first_steps(leads, above, other[0], top)
+    left, right = carried(kinds, ahead, one[1]), carried(kinds, behind, other[1])
+    if kinds[top][0] not in BOUNDED:
+        word = _plain_stand(kinds[top], left, right)
+        # Only of worths alike it counts whether the ways keep.
+        if word != "alike" or does_keep(kinds, one[0], ahead) and does_keep(kinds, other[0], behind):
+            return word
+        return "perhaps"
+    cards = [card_along(kinds, one[0], ahead), card_along(kinds, other[0], behind)]
+    keeping = [does_keep(kinds, one[0], ahead), does_keep(kinds, other[0], behind)]
+    return _bounded_stand(_bounds_of(kinds[top], left), _bounds_of(kinds[top], right), cards, keeping)
 
 
 def _plain_stand(kind, left, right):
@@ -86,7 +90,7 @@ def _plain_stand(kind, left, right):
         return "alike"
     if kind[0] in FINITE:
         return "apart"
-    order = root_order(kind, left, right) if kind[0] == "root" else exact_order(kind, left, right)
+    order = root_compared(kind, left, right) if kind[0] == "root" else exact_compared(kind, left, right)
     return "below" if order < 0 else "above"
 
 

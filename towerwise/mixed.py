@@ -1,11 +1,11 @@
 """MIXED numbers: a number of KINDS and a worth of that kind; deeds of two, whatever their kinds are."""
 
 from towerwise.above import least_having
-from towerwise.deeds import deed_done, need_deed
+from towerwise.deeds import done, need_deed
 from towerwise.errors import BadWorth, ByNought, TooGreat
 from towerwise.going import carried, lifted
-from towerwise.paths import first_between, is_above, reach_of
-from towerwise.towers import need_tower
+from towerwise.paths import first_steps, way_along
+from towerwise.towers import need_tower, plan_of
 from towerwise.words import is_among
 from towerwise.worths import has_worth
 
@@ -37,55 +37,59 @@ def need_number_of(tower, thing):
 
 def mixed_deed(tower, deed, one, other):
     """Tell the MIXED number that comes of two."""
-    _need_deed_of(tower, deed, one, other)
-    above = reach_of(tower)
-    top = least_having(tower, above, deed, one[0], other[0])
-    left = first_come(tower, above, one, top)
-    right = first_come(tower, above, other, top)
-    return (top, deed_done(tower[0][top], deed, left, right))
+    leads, above = _plan_with(tower, deed, one, other)
+    return deed_at(tower[0], leads, above, least_having(tower[0], above, deed, one[0], other[0]), deed, one, other)
+
+
+def deed_at(kinds, leads, above, top, deed, one, other):
+    """Tell the MIXED number that comes of two in a kind above both that has the deed."""
+    left = first_come(kinds, leads, above, one, top)
+    right = first_come(kinds, leads, above, other, top)
+    return (top, done(kinds[top], deed, left, right))
 
 
 def all_answers(tower, deed, one, other):
     """List (ANSWER, WAY, WAY) for all that comes of two MIXED numbers, by whatever ways they go up."""
-    _need_deed_of(tower, deed, one, other)
-    above = reach_of(tower)
-    top = least_having(tower, above, deed, one[0], other[0])
-    rights = _all_come(tower, above, other, top, {})
+    plan = _plan_with(tower, deed, one, other)
+    kinds = tower[0]
+    top = least_having(kinds, plan[1], deed, one[0], other[0])
+    rights = _all_come(kinds, plan, other, top, {})
     found = {}
-    for left, way in _all_come(tower, above, one, top, {}).items():
+    for left, way in _all_come(kinds, plan, one, top, {}).items():
         for right, second in rights.items():
-            found.setdefault(_answer(tower[0][top], deed, left, right), (way, second))
+            found.setdefault(_answer(kinds[top], deed, left, right), (way, second))
     return [(answer, way, second) for answer, (way, second) in found.items()]
 
 
-def first_come(tower, above, number, top):
+def first_come(kinds, leads, above, number, top):
     """Tell what a MIXED number comes to in a kind above its own by the FIRST way."""
-    return carried(tower, first_between(tower, above, number[0], top), number[1])
+    return carried(kinds, first_steps(leads, above, number[0], top), number[1])
 
 
-def _all_come(tower, above, number, top, known):
+def _all_come(kinds, plan, number, top, known):
     """Tell all that a MIXED number comes to in a kind, None for TOO GREAT, each with the first way to it, in order.
 
     What is known already of numbers on the way is not looked for again: many ways come together there.
     """
     if number not in known:
-        known[number] = _come_on(tower, above, number, top, known)
+        known[number] = _come_on(kinds, plan, number, top, known)
     return known[number]
 
 
-def _come_on(tower, above, number, top, known):
+def _come_on(kinds, plan, number, top, known):
     """Tell the same by all that comes of the steps from the number's kind, in order."""
     kind, worth = number
     if kind == top:
         return {worth: (top,)}
+    leads, above = plan
     found = {}
-    for one, middle, how in tower[1]:
-        if one == kind and is_above(above, middle, top):
-            stepped = _stepped(tower[0][one], tower[0][middle], how, worth)
+    for _, middle, how in leads[kind]:
+        if above[middle] >> top & 1:
+            stepped = _stepped(kinds[kind], kinds[middle], how, worth)
             if stepped is None:
-                found.setdefault(None, (kind,) + first_between(tower, above, middle, top))
+                found.setdefault(None, (kind,) + way_along(middle, first_steps(leads, above, middle, top)))
             else:
-                for come, way in _all_come(tower, above, (middle, stepped), top, known).items():
+                for come, way in _all_come(kinds, plan, (middle, stepped), top, known).items():
                     found.setdefault(come, (kind,) + way)
     return found
 
@@ -103,16 +107,17 @@ def _answer(kind, deed, left, right):
     if left is None or right is None:
         return ("great",)
     try:
-        return ("worth", deed_done(kind, deed, left, right))
+        return ("worth", done(kind, deed, left, right))
     except ByNought:
         return ("nought",)
     except TooGreat:
         return ("great",)
 
 
-def _need_deed_of(tower, deed, one, other):
-    """Refuse what is no tower, what is no deed, then what are no MIXED numbers."""
-    need_tower(tower)
+def _plan_with(tower, deed, one, other):
+    """Refuse what is no tower, what is no deed, then what are no MIXED numbers; tell the plan of the tower."""
+    plan = plan_of(tower)
     need_deed(deed)
     need_number_of(tower, one)
     need_number_of(tower, other)
+    return plan

@@ -20,6 +20,11 @@ def one_of(kind):
 def own_deed(kind, deed, one, other):
     """Tell the worth that comes of two worths of an own kind."""
     need_deed_of(kind, ("own",), deed, one, other)
+    return own_done(kind, deed, one, other)
+
+
+def own_done(kind, deed, one, other):
+    """Tell the same of a kind, worths and one of the four deeds that are known to be good."""
     if not own_has(kind, deed):
         raise NoDeed("this kind hasn't this deed")
     if deed == "plus":

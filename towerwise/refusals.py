@@ -23,5 +23,6 @@ def need_deed_of(kind, words, deed, one, other):
 
 def need_small(parts):
     """Refuse with TooGreat where one of these FRACTIONS is TOO GREAT."""
-    if any(is_great(part) for part in parts):
-        raise TooGreat("what comes is too great")
+    for part in parts:
+        if is_great(part):
+            raise TooGreat("what comes is too great")

@@ -9,6 +9,11 @@ from towerwise.worths import need_worth
 def root_deed(kind, deed, one, other):
     """Tell the worth that comes of two worths of a root."""
     need_deed_of(kind, ("root",), deed, one, other)
+    return root_done(kind, deed, one, other)
+
+
+def root_done(kind, deed, one, other):
+    """Tell the same of a kind, worths and one of the four deeds that are known to be good."""
     if deed == "times":
         told = _product(kind[1], one, other)
     elif deed == "over":
@@ -67,6 +72,11 @@ def root_sign(kind, worth):
 def root_order(kind, one, other):
     """Tell -1, 0 or 1 where one is less than other, the same, greater."""
     need_worths_of(kind, ("root",), one, other)
+    return root_compared(kind, one, other)
+
+
+def root_compared(kind, one, other):
+    """Tell the same of a kind and worths that are known to be good."""
     return _sign(kind[1], (difference_of(one[0], other[0]), difference_of(one[1], other[1])))
 
 

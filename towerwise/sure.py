@@ -13,6 +13,11 @@ from towerwise.worths import need_worth
 def sure_deed(kind, deed, one, other):
     """Tell the least bounds of all that comes of a number within one by a number within other."""
     need_deed_of(kind, ("sure",), deed, one, other)
+    return sure_done(deed, one, other)
+
+
+def sure_done(deed, one, other):
+    """Tell the same of worths and one of the four deeds that are known to be good, whichever sure kind it is."""
     if deed == "over" and other[0][0] <= 0 <= other[1][0]:
         raise ByNought("the other may be nought")
     # A deed rises or falls in each of both numbers, so all of it lies between what the ends come to.

@@ -2,16 +2,16 @@
 
 from towerwise.errors import BadNumber, BadTower
 from towerwise.kinds import FINITE, count_worths, is_kind, is_row, need_kind
-from towerwise.paths import is_above, reach_of
+from towerwise.paths import is_ringed, leads_of, reach_of
 from towerwise.words import is_among, is_whole
 
 MOST_KINDS = 8
-# The words of the kinds to which steps without a ROW lead from a kind of that word.
+# The words of the kinds to which steps without a ROW lead from any kind of that word; rests go to some rests alone.
 LEADS = {
     "whole": ("share", "root", "rest", "about", "sure"),
     "share": ("root", "about", "sure"),
     "root": ("sure",),
-    "rest": ("rest",),
+    "rest": (),
     "about": ("about", "sure"),
     "sure": ("sure",),
     "own": (),
@@ -30,20 +30,34 @@ def need_tower(thing):
         raise BadTower(place)
 
 
+def plan_of(thing):
+    """Refuse with BadTower what is no TOWER; tell for its KINDS the steps from each and, in bits, those above each."""
+    place = _wrong_part(thing)
+    if place is not None:
+        raise BadTower(place)
+    leads = leads_of(thing)
+    above = reach_of(leads)
+    if is_ringed(above):
+        raise BadTower((2,))
+    return (leads, above)
+
+
 def _wrong_place(thing):
     """Tell the place of the first thing by which this is no TOWER, None where it is one."""
+    place = _wrong_part(thing)
+    return (2,) if place is None and _has_ring(thing) else place
+
+
+def _wrong_part(thing):
+    """Tell the place of the first thing but a RING by which this is no TOWER, None without one."""
     if not _is_pair_of_tuples(thing) or not 1 <= len(thing[0]) <= MOST_KINDS:
         return ()
     kinds, steps = thing
     for place, kind in enumerate(kinds):
-        if not is_kind(kind) or kind in kinds[:place]:
+        if not is_kind(kind) or kinds.index(kind) != place:
             return (0, place)
-    ahead = (-1, -1)
-    for place, step in enumerate(steps):
-        if not _can_stand(kinds, step) or step[:2] <= ahead:
-            return (1, place)
-        ahead = step[:2]
-    return (2,) if _has_ring(thing) else None
+    place = _wrong_step(kinds, steps)
+    return None if place is None else (1, place)
 
 
 def _is_pair_of_tuples(thing):
@@ -51,37 +65,52 @@ def _is_pair_of_tuples(thing):
     return isinstance(thing, tuple) and len(thing) == 2 and isinstance(thing[0], tuple) and isinstance(thing[1], tuple)
 
 
-def _can_stand(kinds, step):
-    """Tell whether a thing is a step between two of these kinds, wherever it stands."""
-    if not _is_led_by_numbers(step):
-        return False
-    one, other, how = step
-    if one == other or not 0 <= one < len(kinds) or not 0 <= other < len(kinds):
-        return False
-    return _is_how(kinds[one], kinds[other], how)
+def _wrong_step(kinds, steps):
+    """Tell the place of the first of STEPS that can't stand there, None where all can."""
+    many, words = len(kinds), [kind[0] for kind in kinds]
+    last = -1
+    for place, step in enumerate(steps):
+        if not isinstance(step, tuple) or len(step) != 3:
+            return place
+        one, other, how = step
+        if (type(one) is not int or type(other) is not int) and not _are_whole(one, other):
+            return place
+        # Of numbers from 0 to 7 this rises as the two do, and of a first one below 0 it is below 0.
+        number = one * MOST_KINDS + other
+        if other < 0 or other >= many or number <= last or one >= many or one == other:
+            return place
+        last = number
+        if (how is not None or words[other] not in LEADS[words[one]]) and not _is_how(kinds[one], kinds[other], how):
+            return place
+    return None
+
+
+def _are_whole(one, other):
+    """Tell whether both are whole numbers."""
+    return is_whole(one) and is_whole(other)
 
 
 def _is_led_by_numbers(step):
     """Tell whether a thing is a tuple of three, two whole numbers first."""
-    return isinstance(step, tuple) and len(step) == 3 and is_whole(step[0]) and is_whole(step[1])
+    return isinstance(step, tuple) and len(step) == 3 and _are_whole(step[0], step[1])
 
 
 def _is_how(one, other, how):
-    """Tell whether a step leads from one kind to another by this."""
+    """Tell whether a step leads from one kind to another by this, where steps don't lead so from all of its word."""
     if other[0] == "own":
         return one[0] in FINITE and is_row(how, count_worths(one), count_worths(other))
-    if how is not None or other[0] not in LEADS[one[0]]:
-        return False
-    return one[0] != "rest" or one[1] % other[1] == 0
+    return how is None and one[0] == "rest" and other[0] == "rest" and one[1] % other[1] == 0
 
 
 def _has_ring(tower):
     """Tell whether steps lead from some kind back to it."""
-    # Steps that all lead to greater numbers make no ring.
-    if all([one < other for one, other, _ in tower[1]]):
-        return False
-    above = reach_of(tower)
-    return any([is_above(above, other, one) for one, other, _ in tower[1]])
+    kinds, steps = tower
+    for one, other, _ in steps:
+        # No steps come back to a word that was left, and each RING has a step to a lesser number: so without such a
+        # step within one word there is none.
+        if one > other and kinds[one][0] == kinds[other][0]:
+            return is_ringed(reach_of(leads_of(tower)))
+    return False
 
 
 def need_number(tower, thing):
@@ -114,7 +143,7 @@ def with_step(tower, step):
     if not _is_led_by_numbers(step):
         raise BadTower((1, len(steps)))
     place = len([told for told in steps if told[:2] < step[:2]])
-    if not _can_stand(kinds, step) or step[:2] in [told[:2] for told in steps]:
+    if _wrong_step(kinds, (step,)) is not None or step[:2] in [told[:2] for told in steps]:
         raise BadTower((1, place))
     grown = (kinds, steps[:place] + (step,) + steps[place:])
     if _has_ring(grown):

@@ -43,6 +43,13 @@ FUNCTIONS = {
     "likeness": {"keeps_worths": "tower way", "bounds_at": "tower way worth", "likeness_of": "tower one other"},
     "order": {"order_of": "tower one other", "in_order": "tower numbers"},
     "twins": {"going_back": "tower way worth", "twins_of": "tower number", "plainest_twin": "tower number"},
+    "programs": {"is_program": "tower thing", "need_program": "tower thing", "names_used": "program place"},
+    "judged": {"kinds_judged": "tower program", "kind_of": "tower program place"},
+    "judgepaper": {"judge_paper": "tower program"},
+    "judgecheck": {"check_judged": "tower program kinds paper"},
+    "runs": {"run_of": "tower program numbers", "run_row": "tower program numbers place"},
+    "terms": {"is_term": "thing", "is_equation": "thing", "need_term": "thing", "names_in": "term",
+              "number_at": "kind number", "lacks_term": "kind term", "term_at": "kind term worths"},
 }
 # Each error class, and its fields; those without are made of a text.
 ERRORS = {

@@ -15,13 +15,19 @@ from towerwise.figures import is_tie, rounded, value_of
 from towerwise.fractions import (difference_of, fraction, is_fraction, is_great, is_less, product_of, quotient_of,
                                  sum_of)
 from towerwise.going import gone_up, is_way, up_step
+from towerwise.judgecheck import check_judged
+from towerwise.judged import kind_of, kinds_judged
+from towerwise.judgepaper import judge_paper
 from towerwise.kinds import is_finite, is_kind, many_worths, need_kind
 from towerwise.likeness import bounds_at, keeps_worths, likeness_of
 from towerwise.mixed import all_answers, is_mixed, mixed_deed, need_mixed
 from towerwise.order import in_order, order_of
 from towerwise.own import is_even, is_group, nought_of, one_of, own_deed
+from towerwise.programs import is_program, names_used, need_program
 from towerwise.roots import root_deed, root_norm, root_order, root_sign, turned_root
+from towerwise.runs import run_of, run_row
 from towerwise.sure import hull_of, is_within, root_bounds, sure_deed, sure_like, sure_order
+from towerwise.terms import is_equation, is_term, lacks_term, names_in, need_term, number_at, term_at
 from towerwise.towers import is_tower, need_tower, steps_from, with_kind, with_step
 from towerwise.twins import going_back, plainest_twin, twins_of
 from towerwise.words import is_among, is_name, is_whole, number_in, words_of
@@ -33,6 +39,12 @@ NOUGHT, ONE, HALF = (0, 1), (1, 1), (1, 2)
 
 SMALL = ((WHOLE, REST, SHARE), ((0, 1, None), (0, 2, None)))
 SMALL_PAPER = ((0, 1, ("round", (0, 1, 2, 3, 4, 5, 6))), (0, 2, ("figures", ())))
+
+PROGRAM = ((("a", 0), ("b", 1)), (("c", ("plus", "a", "b")), ("d", ("up", "b", 3)),
+                                  ("e", ("pick", "a", "b", "a", "c"))))
+LEDS = ((2, (1, 2)), (3, (1, 2, 3)))
+PAPER = ((1, (0, 1), (1,), LEDS), (3, (1, 2, 3)), (1, (0, 1), (1,), LEDS, (1, (0, 1), (1,), LEDS)))
+TERM = ("plus", ("name", "b"), ("times", ("name", "a"), ("number", -2)))
 
 # A good call of each function, and what it tells.
 GOOD = [
@@ -79,9 +91,17 @@ GOOD = [
     (in_order, (LINE, [(0, 1), (1, HALF)]), [(1, HALF), (0, 1)]), (going_back, (LINE, (0, 1), (5, 1)), 5),
     (twins_of, (LINE, (1, HALF)), [(1, HALF), (2, (HALF, NOUGHT)), (3, (HALF, HALF))]),
     (plainest_twin, (LINE, (3, (HALF, HALF))), (1, HALF)), (twins_of, (ALONE, (0, 5)), [(0, 5)]),
+    (is_program, (LINE, PROGRAM), True), (need_program, (LINE, PROGRAM), None),
+    (names_used, (PROGRAM, 2), ["a", "b", "c"]), (kinds_judged, (LINE, PROGRAM), ("kinds", (1, 3, 1))),
+    (kind_of, (LINE, PROGRAM, 1), 3), (judge_paper, (LINE, PROGRAM), PAPER),
+    (check_judged, (LINE, PROGRAM, (1, 3, 1), PAPER), None),
+    (run_of, (LINE, PROGRAM, (2, HALF)), [(1, (5, 2)), (3, (HALF, HALF)), (1, (5, 2))]),
+    (run_row, (LINE, PROGRAM, (0, HALF), 2), (1, NOUGHT)), (is_term, (TERM,), True), (need_term, (TERM,), None),
+    (is_equation, ((TERM, TERM),), True), (names_in, (TERM,), ["a", "b"]), (number_at, (OWN_FOUR, -3), 1),
+    (lacks_term, (OWN_FOUR, TERM), False), (term_at, (("share",), TERM, {"a": HALF, "b": ONE, "d": None}), NOUGHT),
 ]
-# These are promised for good FRACTIONS, or CARDS that fit, alone.
-UNREFUSING = (sum_of, product_of, difference_of, quotient_of, is_less, is_great, card_behind, by_card)
+# These are promised for good FRACTIONS, CARDS that fit, good programs alone.
+UNREFUSING = (sum_of, product_of, difference_of, quotient_of, is_less, is_great, card_behind, by_card, names_used)
 
 
 class Kept(Case):

@@ -15,18 +15,18 @@ from towerwise.worths import need_among_worths
 def is_way(tower, thing):
     """Tell whether thing is a WAY of a tower."""
     need_tower(tower)
-    return _steps_along(tower, thing) is not None
+    return steps_along(tower, thing) is not None
 
 
 def need_way(tower, way):
     """Refuse with BadWay what is no WAY of a good tower; list its steps."""
-    steps = _steps_along(tower, way)
+    steps = steps_along(tower, way)
     if steps is None:
         raise BadWay("this is no way of the tower")
     return steps
 
 
-def _steps_along(tower, thing):
+def steps_along(tower, thing):
     """List the steps along which a thing goes up a good tower, None where it is no WAY."""
     if not isinstance(thing, tuple) or len(thing) == 0:
         return None

@@ -50,6 +50,18 @@ FUNCTIONS = {
     "runs": {"run_of": "tower program numbers", "run_row": "tower program numbers place"},
     "terms": {"is_term": "thing", "is_equation": "thing", "need_term": "thing", "names_in": "term",
               "number_at": "kind number", "lacks_term": "kind term", "term_at": "kind term worths"},
+    "polys": {"poly_of": "term"},
+    "verdicts": {"verdict_of": "kind equation", "reach_of": "tower equation"},
+    "writing": {"kind_text": "kind", "worth_text": "kind worth", "tower_text": "tower",
+                "program_text": "tower program"},
+    "reading": {"read_kind": "text", "read_tower": "text", "read_worth": "kind text", "read_program": "tower text"},
+}
+# Each class with its methods, by its file.
+CLASSES = {
+    "house": ("House", {"__init__": "tower", "kind": "kind", "step": "step", "tower": "", "name": "name number",
+                        "names": "", "number": "name", "deed": "deed one other", "likeness": "one other",
+                        "order": "one other", "looked": "", "copied": ""}),
+    "desk": ("Desk", {"__init__": "", "said": "line"}),
 }
 # Each error class, and its fields; those without are made of a text.
 ERRORS = {
@@ -79,6 +91,14 @@ class Interface(unittest.TestCase):
                 with self.subTest(file=file, name=name):
                     self.assertEqual(defined.get(name), words.split())
                     self.assertTrue(callable(getattr(importlib.import_module("towerwise." + file), name)))
+
+    def test_classes_stand_in_their_files_with_their_methods(self):
+        for file, (name, wanted) in CLASSES.items():
+            made = [node for node in parsed(file).body if isinstance(node, ast.ClassDef) and node.name == name]
+            defined = {node.name: arguments(node) for node in made[0].body if isinstance(node, ast.FunctionDef)}
+            for method, words in wanted.items():
+                with self.subTest(file=file, method=method):
+                    self.assertEqual(defined.get(method), ["self"] + words.split())
 
     def test_error_classes_stand_in_their_file_with_their_fields(self):
         defined = {node.name: node for node in parsed("errors").body if isinstance(node, ast.ClassDef)}

@@ -23,15 +23,19 @@ from towerwise.likeness import bounds_at, keeps_worths, likeness_of
 from towerwise.mixed import all_answers, is_mixed, mixed_deed, need_mixed
 from towerwise.order import in_order, order_of
 from towerwise.own import is_even, is_group, nought_of, one_of, own_deed
+from towerwise.polys import poly_of
 from towerwise.programs import is_program, names_used, need_program
+from towerwise.reading import read_kind, read_program, read_tower, read_worth
 from towerwise.roots import root_deed, root_norm, root_order, root_sign, turned_root
 from towerwise.runs import run_of, run_row
 from towerwise.sure import hull_of, is_within, root_bounds, sure_deed, sure_like, sure_order
 from towerwise.terms import is_equation, is_term, lacks_term, names_in, need_term, number_at, term_at
 from towerwise.towers import is_tower, need_tower, steps_from, with_kind, with_step
 from towerwise.twins import going_back, plainest_twin, twins_of
+from towerwise.verdicts import reach_of, verdict_of
 from towerwise.words import is_among, is_name, is_whole, number_in, words_of
 from towerwise.worths import is_worth, need_worth, place_of, worth_at
+from towerwise.writing import kind_text, program_text, tower_text, worth_text
 
 WHOLE, SHARE, ROOT, REST = ("whole",), ("share",), ("root", 5), ("rest", 7)
 ABOUT, SURE = ("about", 2), ("sure", 3)
@@ -45,6 +49,9 @@ PROGRAM = ((("a", 0), ("b", 1)), (("c", ("plus", "a", "b")), ("d", ("up", "b", 3
 LEDS = ((2, (1, 2)), (3, (1, 2, 3)))
 PAPER = ((1, (0, 1), (1,), LEDS), (3, (1, 2, 3)), (1, (0, 1), (1,), LEDS, (1, (0, 1), (1,), LEDS)))
 TERM = ("plus", ("name", "b"), ("times", ("name", "a"), ("number", -2)))
+
+LINE_TEXT = "kind whole\nkind share\nkind root 2\nkind sure 2\nstep 0 1\nstep 1 2\nstep 2 3"
+PROGRAM_TEXT = "in a 0\nin b 1\nrow c plus a b\nrow d up b 3\nrow e pick a b a c"
 
 # A good call of each function, and what it tells.
 GOOD = [
@@ -99,9 +106,17 @@ GOOD = [
     (run_row, (LINE, PROGRAM, (0, HALF), 2), (1, NOUGHT)), (is_term, (TERM,), True), (need_term, (TERM,), None),
     (is_equation, ((TERM, TERM),), True), (names_in, (TERM,), ["a", "b"]), (number_at, (OWN_FOUR, -3), 1),
     (lacks_term, (OWN_FOUR, TERM), False), (term_at, (("share",), TERM, {"a": HALF, "b": ONE, "d": None}), NOUGHT),
+    (poly_of, (TERM,), (((("a", 1),), -2), ((("b", 1),), 1))),
+    (verdict_of, (WHOLE, (TERM, ("name", "b"))), ("broken", (("a", 1), ("b", 0)))),
+    (reach_of, (LINE, (TERM, TERM)), ("all", ("holds", "holds", "holds", "tried"))),
+    (kind_text, (OWN_FOUR,), "own 0123/1032/2301/3210 0000/0123/0231/0312"), (worth_text, (SURE, (HALF, ONE)), "1/2 1"),
+    (tower_text, (LINE,), LINE_TEXT), (program_text, (LINE, PROGRAM), PROGRAM_TEXT), (read_kind, ("sure 3",), SURE),
+    (read_worth, (ABOUT, "25 -3"), (25, -3)), (read_tower, (LINE_TEXT,), LINE),
+    (read_program, (LINE, PROGRAM_TEXT), PROGRAM),
 ]
-# These are promised for good FRACTIONS, CARDS that fit, good programs alone.
-UNREFUSING = (sum_of, product_of, difference_of, quotient_of, is_less, is_great, card_behind, by_card, names_used)
+# These are promised for good things alone.
+UNREFUSING = (sum_of, product_of, difference_of, quotient_of, is_less, is_great, card_behind, by_card, names_used,
+              kind_text, worth_text, tower_text, program_text)
 
 
 class Kept(Case):

@@ -18,7 +18,7 @@ def leads_of(tower):
     return leads
 
 
-def reach_of(leads):
+def all_above(leads):
     """List for each kind, in bits, those above it."""
     above = [0] * len(leads)
     for number in range(len(leads)):
@@ -95,5 +95,5 @@ def _is_led_to(above, numbers, number):
 
 
 def is_ringed(above):
-    """Tell whether, by what reach_of listed, there is a RING."""
+    """Tell whether, by what all_above listed, there is a RING."""
     return max(above) >= RINGED

@@ -35,6 +35,12 @@ def need_term(thing):
         raise BadTerm("this is no term")
 
 
+def need_equation(thing):
+    """Refuse with BadTerm what is no EQUATION."""
+    if not is_equation(thing):
+        raise BadTerm("this is no equation")
+
+
 def _parts_of(thing, deep):
     """List the parts of what is told as a TERM is, at most so deep: itself and all within; none of all else."""
     if deep == 0 or not isinstance(thing, tuple) or not 2 <= len(thing) <= 3 or not isinstance(thing[0], str):

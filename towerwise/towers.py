@@ -2,7 +2,7 @@
 
 from towerwise.errors import BadNumber, BadTower
 from towerwise.kinds import FINITE, count_worths, is_kind, is_row, need_kind
-from towerwise.paths import is_ringed, leads_of, reach_of
+from towerwise.paths import is_ringed, leads_of, all_above
 from towerwise.words import is_among, is_whole
 
 MOST_KINDS = 8
@@ -36,7 +36,7 @@ def plan_of(thing):
     if place is not None:
         raise BadTower(place)
     leads = leads_of(thing)
-    above = reach_of(leads)
+    above = all_above(leads)
     if is_ringed(above):
         raise BadTower((2,))
     return (leads, above)
@@ -85,6 +85,11 @@ def _wrong_step(kinds, steps):
     return None
 
 
+def can_stand(kinds, step):
+    """Tell whether a thing is a step between two of these kinds, wherever it stands."""
+    return _wrong_step(kinds, (step,)) is None
+
+
 def _are_whole(one, other):
     """Tell whether both are whole numbers."""
     return is_whole(one) and is_whole(other)
@@ -109,7 +114,7 @@ def _has_ring(tower):
         # No steps come back to a word that was left, and each RING has a step to a lesser number: so without such a
         # step within one word there is none.
         if one > other and kinds[one][0] == kinds[other][0]:
-            return is_ringed(reach_of(leads_of(tower)))
+            return is_ringed(all_above(leads_of(tower)))
     return False
 
 
@@ -143,7 +148,7 @@ def with_step(tower, step):
     if not _is_led_by_numbers(step):
         raise BadTower((1, len(steps)))
     place = len([told for told in steps if told[:2] < step[:2]])
-    if _wrong_step(kinds, (step,)) is not None or step[:2] in [told[:2] for told in steps]:
+    if not can_stand(kinds, step) or step[:2] in [told[:2] for told in steps]:
         raise BadTower((1, place))
     grown = (kinds, steps[:place] + (step,) + steps[place:])
     if _has_ring(grown):

@@ -7,16 +7,15 @@ from towerwise.house import House
 from towerwise.judged import kinds_judged
 from towerwise.reading import read_kind, read_program, read_worth, row_in
 from towerwise.runs import run_of
-from towerwise.terms import TERM_DEEDS, is_equation
+from towerwise.terms import MOST_PARTS, TERM_DEEDS, is_equation
 from towerwise.verdicts import reach_of
 from towerwise.words import is_among, is_deed, is_name, number_in, words_of
 from towerwise.writing import mixed_text, worth_text
 
-# More words than any line has.
-ANY = 10 ** 60
-# How many words a line has by its first one, at least and at most.
-COUNTS = {"kind": (2, ANY), "step": (3, 4), "let": (4, ANY), "do": (5, 5), "like": (3, 3), "order": (3, 3),
-          "ways": (3, 3), "even": (1, 1), "holds": (4, ANY), "program": (2, ANY), "run": (1, ANY)}
+# How many words a line has by its first one, at least and, where more are too many, at most.
+LEAST = {"kind": 2, "step": 3, "let": 4, "do": 5, "like": 3, "order": 3, "ways": 3, "even": 1, "holds": 4,
+         "program": 2, "run": 1}
+MOST = {"step": 4, "do": 5, "like": 3, "order": 3, "ways": 3, "even": 1}
 
 
 class Desk:
@@ -183,10 +182,8 @@ class Desk:
 
 def _is_line(words):
     """Tell whether there are as many words as a line with this first one has."""
-    if words[0] not in COUNTS:
-        return False
-    least, most = COUNTS[words[0]]
-    return is_among(len(words), least, most)
+    word, many = words[0], len(words)
+    return word in LEAST and LEAST[word] <= many <= MOST.get(word, many)
 
 
 def _way_text(way):
@@ -197,6 +194,9 @@ def _way_text(way):
 def _term_in(words):
     """Tell the TERM that words write, each deed ahead of both its sides; of other words nothing that is one."""
     told = []
+    # Each word is a part of the term.
+    if len(words) > MOST_PARTS:
+        return None
     for word in reversed(words):
         if word in TERM_DEEDS:
             if len(told) < 2:

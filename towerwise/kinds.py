@@ -42,17 +42,17 @@ def _are_tables(plus, times):
     if not isinstance(plus, tuple) or not isinstance(times, tuple):
         return False
     many = len(plus)
-    return 2 <= many <= 6 and len(times) == many and _are_rows(plus, many) and _are_rows(times, many)
+    return 2 <= many <= 6 and len(times) == many and _are_rows(plus + times, many)
 
 
-def _are_rows(table, many):
+def _are_rows(rows, many):
     """Tell whether a tuple holds nothing but tuples of so many numbers, each from 0 to many - 1.
 
     Towers are looked at with each question, and most of that look goes into tables: so the six numbers are looked at
     by name here, and is_row is asked only where they aren't plainly good.
     """
     filling = FILLING[many]
-    for row in table:
+    for row in rows:
         if not isinstance(row, tuple) or len(row) != many:
             return False
         one, two, three, four, five, six = row + filling

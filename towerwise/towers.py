@@ -54,10 +54,20 @@ def _wrong_part(thing):
         return ()
     kinds, steps = thing
     for place, kind in enumerate(kinds):
-        if not is_kind(kind) or kinds.index(kind) != place:
-            return (0, place)
+        if not is_kind(kind):
+            return (0, _first_twice(kinds[:place]) or place)
+    if len(set(kinds)) < len(kinds):
+        return (0, _first_twice(kinds))
     place = _wrong_step(kinds, steps)
     return None if place is None else (1, place)
+
+
+def _first_twice(kinds):
+    """Tell the place of the first of some kinds that stands ahead already, None without one."""
+    for place, kind in enumerate(kinds):
+        if kind in kinds[:place]:
+            return place
+    return None
 
 
 def _is_pair_of_tuples(thing):
@@ -68,19 +78,22 @@ def _is_pair_of_tuples(thing):
 def _wrong_step(kinds, steps):
     """Tell the place of the first of STEPS that can't stand there, None where all can."""
     many, words = len(kinds), [kind[0] for kind in kinds]
-    last = -1
+    start, last, ends = -1, -1, ()
     for place, step in enumerate(steps):
         if not isinstance(step, tuple) or len(step) != 3:
             return place
         one, other, how = step
         if (type(one) is not int or type(other) is not int) and not _are_whole(one, other):
             return place
-        # Of numbers from 0 to 7 this rises as the two do, and of a first one below 0 it is below 0.
-        number = one * MOST_KINDS + other
-        if other < 0 or other >= many or number <= last or one >= many or one == other:
+        if one != start or one < 0:
+            if one < start or one < 0 or one >= many:
+                return place
+            start, last, ends = one, -1, LEADS[words[one]]
+        # As long as steps lead from one kind, those to which they lead rise.
+        if other <= last or other >= many or other == one:
             return place
-        last = number
-        if (how is not None or words[other] not in LEADS[words[one]]) and not _is_how(kinds[one], kinds[other], how):
+        last = other
+        if (how is not None or words[other] not in ends) and not _is_how(kinds[one], kinds[other], how):
             return place
     return None
 

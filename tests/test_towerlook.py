@@ -112,6 +112,14 @@ class Look(TowerCase):
                 self.bad((1, place + 1), (kinds, told[:place + 1] + told[place:]))
                 self.told(True, is_tower, (kinds, told[:place] + told[place + 1:]))
 
+    def test_numbers_below_nought_count_no_kinds_from_the_end(self):
+        kinds = (OWN, ("rest", 6), ("rest", 12))
+        self.told(True, is_tower, (kinds, ((1, 0, ROW), (2, 0, ROW * 2), (2, 1, None))))
+        for step in ((-1, 0, ROW * 2), (-2, 0, ROW), (-1, 1, None), (1, -3, ROW), (2, -2, None), (-1, -3, ROW * 2)):
+            self.bad((1, 0), (kinds, (step,)))
+            self.bad((1, 0), (kinds, (step, (1, 0, ROW))))
+            self.bad((1, 1), (kinds, ((1, 0, ROW), step)))
+
     def test_each_number_of_the_tables_spoilt(self):
         for table in (1, 2):
             for place, row in enumerate(OWN[table]):

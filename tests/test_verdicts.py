@@ -158,6 +158,18 @@ class Verdicts(TermCase):
         self.told(("broken", (("a", (1, 3)),)), verdict_of, ("about", 3), (far, number(0)))
         self.told(("broken", (("a", (NOUGHT, ONE)),)), verdict_of, S0, (factors(A, (0, 1, -1)), number(0)))
 
+    def test_each_of_the_sure_bounds_tried(self):
+        more, apart = plus(A, number(1)), less(A, A)
+        square = plus(plus(times(A, A), times(number(2), A)), number(1))
+        for kind in (S0, ("sure", 3)):
+            for equation, low, high in (((A, plus(A, number(1))), 0, 0), ((plus(A, A), A), 1, 1),
+                                        ((times(A, A), A), -1, -1), ((apart, number(0)), 0, 1),
+                                        ((times(more, more), square), -1, 1), ((apart, times(apart, A)), 1, 2),
+                                        ((times(A, times(A, A)), A), 1, 2),
+                                        ((times(more, A), plus(times(A, A), A)), -2, 0)):
+                self.tells(kind, equation)
+                self.told(("broken", (("a", ((low, 1), (high, 1))),)), verdict_of, kind, equation)
+
     def test_lacks_goes_ahead_of_all_else(self):
         for equation in ((less(A, A), number(0)), (A, less(A, B)), (number(-1), A), (less(A, B), less(B, A))):
             self.told(("lacks",), verdict_of, OWN_OR, equation)
